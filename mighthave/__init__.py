@@ -1,0 +1,1 @@
+"""Mighthave: what could have been, and who can tell."""

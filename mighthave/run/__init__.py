@@ -1,0 +1,1 @@
+"""Runs of hands without a common clock: their deeds, moments and ways."""

@@ -1,0 +1,112 @@
+"""Ways from BEGIN to END, deed by deed, and the moments that they come to."""
+
+from mighthave.errors import NoMoments, NoNumber, NoWay, TooWide
+from mighthave.run.pasts import is_moment_of, need_moment
+from mighthave.run.runs import need_run
+from mighthave.run.shapes import is_row, is_whole
+from mighthave.run.steps import full_counts, hands_between, is_ready, is_under
+from mighthave.run.steps import no_counts, stepped, taker_of
+
+MOST = 2000
+MOST_EVER = 5000
+
+
+def need_most(most):
+    """Refuse what is no bound on how many moments there may be."""
+    if not is_whole(most, 1, MOST_EVER):
+        raise NoNumber(most)
+
+
+def hands_on(run, moment):
+    """The rising hands that can go on from the moment."""
+    return tuple([hand for hand in range(len(run)) if is_ready(run, moment, hand)])
+
+
+def can_go_on(run, moment):
+    """The rising hands whose next deed leads to a moment, too."""
+    need_run(run)
+    need_moment(run, moment)
+    return hands_on(run, moment)
+
+
+def is_last_free(run, moment, hand):
+    """Whether the hand has a last deed, and no deed of the moment takes its letter."""
+    if moment[hand] == 0:
+        return False
+    taker = taker_of(run, (hand, moment[hand] - 1))
+    return taker is None or taker[1] >= moment[taker[0]]
+
+
+def can_go_back(run, moment):
+    """The rising hands without whose last deed it is a moment, too."""
+    need_run(run)
+    need_moment(run, moment)
+    return tuple([hand for hand in range(len(run)) if is_last_free(run, moment, hand)])
+
+
+def stands_by(run, thing):
+    """The moments that it comes to, if it is a way, or None."""
+    many = sum(full_counts(run))
+    if not is_row(thing, many, many):
+        return None
+    moment = no_counts(run)
+    stands = [moment]
+    for hand in thing:
+        if not is_whole(hand, 0, len(run) - 1) or not is_ready(run, moment, hand):
+            return None
+        moment = stepped(moment, hand)
+        stands.append(moment)
+    return tuple(stands)
+
+
+def is_way(run, thing):
+    """Whether it is a way of the run."""
+    need_run(run)
+    return stands_by(run, thing) is not None
+
+
+def stands_of(run, way):
+    """The moments that the way comes to, in order, BEGIN and END, too."""
+    need_run(run)
+    stands = stands_by(run, way)
+    if stands is None:
+        raise NoWay("this is no way of the run")
+    return stands
+
+
+def is_climb(run, thing):
+    """Whether it is a row of moments, each at or below the next."""
+    if type(thing) != tuple or not all([is_moment_of(run, each) for each in thing]):
+        return False
+    return all([is_under(low, high) for low, high in zip(thing, thing[1:])])
+
+
+def way_by(run, *, moments=()):
+    """A way that has these moments among its stands."""
+    need_run(run)
+    if not is_climb(run, moments):
+        raise NoMoments("no row of moments, each at or below the next")
+    marks = [no_counts(run), *moments, full_counts(run)]
+    hands = []
+    for low, high in zip(marks, marks[1:]):
+        hands.extend(hands_between(run, low, high))
+    return tuple(hands)
+
+
+def all_moments(run, *, most=MOST):
+    """All moments of the run, rising, if there are no more than most."""
+    need_run(run)
+    need_most(most)
+    begin = no_counts(run)
+    found = {begin: True}
+    waiting = [begin]
+    while waiting:
+        moment = waiting.pop()
+        for hand in hands_on(run, moment):
+            further = stepped(moment, hand)
+            if further not in found:
+                found[further] = True
+                waiting.append(further)
+        if len(found) > most:
+            raise TooWide(most)
+    return tuple(sorted(found))

@@ -1,0 +1,95 @@
+"""A test of refusals that serves each def alike.
+
+A CALL is told by what it is called with, argument by argument as the interface lists
+them, and for each argument by what is none of its kind and how that is refused.
+"""
+
+from mighthave.errors import NoHand, NoMoment, NoMoments, NoName, NoNumber, NoPlace, NoRun, NoWay
+from tests.samples import DEEP, DO, ODD, WRITTEN, send, take
+
+BEARS = {NoHand: "hand", NoPlace: "deed", NoNumber: "number"}
+
+# What each argument is refused by, of the run WRITTEN: two hands, of two deeds and of one.
+NO_RUNS = ODD + (
+    (), 0, [WRITTEN[0], WRITTEN[1]], (list(WRITTEN[0]), WRITTEN[1]), WRITTEN + ((None,),), ((DO,), (take(0, 0),)),
+    ((send(0),),), ((send(1),),), ((),) * 7,
+)
+NO_HANDS = ODD + (2, 6, (0,), "0", (), [0], (0, 0))
+NO_PLACES = ODD + ((0, 2), (1, 1), (2, 0), (0, 0, 0), [0, 0], (False, 0), (0, False), (0,), (), 0, ("0", 0), ((0, 0),))
+NO_MOMENTS = ODD + (
+    (0, 1), (3, 0), (2, 2), (0, 0, 0), (0,), (), [0, 0], (False, 0), (2, True), (None, 0), 0, ("0", "0"), ((0, 0),),
+)
+NO_NAMES = tuple([thing for thing in ODD if thing != "send"]) + (0, "aB", "a ", "a\n", "ab1", ("a",), ["a"], "0")
+NO_COUNTS = ODD + (3, 4, "0", (0,), [1])
+NO_WAYS = ODD + (
+    (), (0, 0), (1, 0, 0), (0, 0, 1, 1), (0, 0, 0), (0, 1, True), (0, 1, 2), [0, 0, 1], "001", (0, 0, -1), (0, 0, None), 0,
+)
+NO_CLIMBS = tuple([thing for thing in ODD if thing != ()]) + (
+    0, [(0, 0)], ((0, 1),), ((1, 0), (0, 0)), ((2, 0), (1, 1)), ((1, 1), (2, 0)), ((0, 0), [2, 1]), ((0, 0), None),
+    ((0, 0), (True, 0)), (0, 0), ((0, 0), (3, 1)),
+)
+NO_MOSTS = ODD + (0, 5001, "1", (1,), [2000])
+
+KINDS = {
+    "run": (NoRun, NO_RUNS),
+    "hand": (NoHand, NO_HANDS),
+    "deed": (NoPlace, NO_PLACES),
+    "moment": (NoMoment, NO_MOMENTS),
+    "name": (NoName, NO_NAMES),
+    "count": (NoNumber, NO_COUNTS),
+    "way": (NoWay, NO_WAYS),
+    "moments": (NoMoments, NO_CLIMBS),
+    "most": (NoNumber, NO_MOSTS),
+}
+
+
+def raised(call, *arguments, **named):
+    """What the call raises, or None."""
+    try:
+        call(*arguments, **named)
+    except Exception as error:
+        return error
+    return None
+
+
+def check_refused(test, call, kind, bad, named):
+    """The call refuses with this class alone, bears what it was handed, and leaves it as it was."""
+    before = repr(named)
+    error = raised(call, **named)
+    where = f"{call.__name__}({', '.join([f'{name}={thing!r}' for name, thing in named.items()])})"
+    test.assertIs(kind, type(error), f"{where} raised {error!r}")
+    if kind in BEARS:
+        test.assertIs(bad, getattr(error, BEARS[kind]), where)
+    test.assertEqual(before, repr(named), where)
+
+
+def check_call(test, call, arguments):
+    """Each argument refuses what is none of its kind, the first one ahead of all behind it.
+
+    arguments: rows of (its name, its kind, something good), as the interface lists them.
+    """
+    good = {name: thing for name, _, thing in arguments}
+    told = call(**good)
+    test.assertEqual(told, call(**dict(reversed(list(good.items())))))
+    for at, (name, kind, _) in enumerate(arguments):
+        refusal, bads = KINDS[kind]
+        for bad in bads:
+            check_refused(test, call, refusal, bad, {**good, name: bad})
+            for other, also, _ in arguments[at + 1:]:
+                worse = KINDS[also][1]
+                for k in (0, len(worse) // 2, len(worse) - 1):
+                    check_refused(test, call, refusal, bad, {**good, name: bad, other: worse[k]})
+
+
+def check_places(test, call, arguments):
+    """Arguments may be handed in by their places, too."""
+    good = {name: thing for name, _, thing in arguments}
+    test.assertEqual(call(**good), call(*good.values()))
+
+
+def check_anything(test, call, *well):
+    """Of anything the call tells a truth, never an error."""
+    for thing in NO_RUNS + NO_MOMENTS + NO_PLACES + NO_WAYS + NO_CLIMBS + (DEEP, [DEEP]):
+        before = repr(thing)
+        test.assertIs(bool, type(call(*well, thing)), f"{call.__name__} of {thing!r}")
+        test.assertEqual(before, repr(thing))

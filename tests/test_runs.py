@@ -1,0 +1,241 @@
+"""Names, deeds, runs; deeds of a run, worths, letters taken."""
+
+import random
+import unittest
+
+from mighthave.errors import NoHand, NoNumber
+from mighthave.run import runs
+from mighthave.run.runs import deeds_of, is_deed, is_name, is_run, taken_by, worth_of
+from tests import samples
+from tests.refusals import check_anything, check_call, check_places
+from tests.samples import DO, do, send, take
+
+
+class Names(unittest.TestCase):
+
+    def test_names(self):
+        for name in ("a", "z", "ab", "abcdef", "zzzzzz", "send", "is"):
+            self.assertIs(True, is_name(name), name)
+
+    def test_no_names(self):
+        for thing in ("", "abcdefg", "A", "aB", "a1", "a ", " a", "a\n", "\n", "a_", "a-b", "`", "{", "~",
+                      0, 1, None, True, ("a",), ["a"], {"a": 1}, (), [], ("a", "b")):
+            self.assertIs(False, is_name(thing), thing)
+
+
+class Deeds(unittest.TestCase):
+
+    def test_deeds(self):
+        for deed in (DO, send(0), send(5), take(0, 0), take(5, 11), do(("a", 0)), do(("a", 99)),
+                     do(("a", 1), ("b", 1), ("c", 1)), do(("a", 9), ("aa", 0), ("b", 5)),
+                     send(3, ("x", 1)), take(2, 3, ("abcdef", 50), ("b", 0))):
+            self.assertIs(True, is_deed(deed), deed)
+
+    def test_wrong_acts(self):
+        for act in (("send",), ("send", 6), ("send", -1), ("send", True), ("send", "1"), ("send", None), ("send", 1, 0),
+                    ("take", 0), ("take", 6, 0), ("take", -1, 0), ("take", 0, 12), ("take", 0, -1), ("take", 0, True),
+                    ("take", False, 0), ("take", 0, 0, 0), ("take", "0", 0), ("do",), ("give", 1), ("give", 0, 1),
+                    "send", "", None, 0, [], ["send", 1], ["take", 0, 0], {}, (None,), ((),), (["send"], 1),
+                    ("Send", 1), ("take", (0, 0)), (("send", 1),), (True, 1), ({}, 0, 0)):
+            self.assertIs(False, is_deed((act, ())), act)
+
+    def test_wrong_sets(self):
+        for sets in ((("a", 100),), (("a", -1),), (("a", True),), (("a", False),), (("a", "1"),), (("a", None),),
+                     (("a", 1), ("a", 1)), (("a", 1), ("a", 2)), (("b", 1), ("a", 2)), (("aa", 1), ("a", 2)),
+                     (("a", 1), ("b", 1), ("c", 1), ("d", 1)), (("", 1),), (("abcdefg", 1),), (("A", 1),),
+                     (("a",),), (("a", 1, 1),), ("a", 1), (["a", 1],), [("a", 1)], [], None, 0, "", {}, {"a": 1},
+                     ((1, "a"),), (("a", (1,)),), ((None, 1),), (([], 1),), (None,), (("a", 1), None),
+                     (("a", 10 ** 39),)):
+            self.assertIs(False, is_deed(((), sets)), sets)
+
+    def test_wrong_pairs(self):
+        for thing in ((), ((),), ((), (), ()), [(), ()], None, 0, "", {}, True, "ab", samples.DEEP):
+            self.assertIs(False, is_deed(thing), thing)
+
+    def test_form_alone(self):
+        self.assertIs(True, is_deed(take(0, 11)))
+        self.assertIs(False, is_run(((take(0, 11),),)))
+
+
+class Runs(unittest.TestCase):
+
+    def test_bounds(self):
+        self.assertEqual((6, 12, 48), (runs.MOST_HANDS, runs.MOST_DEEDS, runs.MOST_IN_ALL))
+
+    def test_runs(self):
+        for run in samples.SMALL + (samples.MANY, samples.LONG, samples.BUSY):
+            self.assertIs(True, is_run(run), run)
+        for run in samples.random_runs(1, 200, 30):
+            self.assertIs(True, is_run(run), run)
+
+    def test_hands(self):
+        for many, told in ((0, False), (1, True), (6, True), (7, False)):
+            self.assertIs(told, is_run(((),) * many))
+
+    def test_deeds_in_a_row_and_in_all(self):
+        self.assertIs(True, is_run(((DO,) * 12,)))
+        self.assertIs(False, is_run(((DO,) * 13,)))
+        self.assertIs(True, is_run(((DO,) * 8,) * 6))
+        self.assertIs(True, is_run(((DO,) * 12,) * 4 + ((), ())))
+        self.assertIs(False, is_run(((DO,) * 12,) * 4 + ((DO,),)))
+        self.assertIs(False, is_run(((DO,) * 8,) * 5 + ((DO,) * 9,)))
+
+    def test_letters_to_wrong_hands(self):
+        self.assertIs(True, is_run(((send(1),), ())))
+        self.assertIs(False, is_run(((send(0),), ())))
+        self.assertIs(False, is_run(((), (send(1),))))
+        self.assertIs(False, is_run(((send(2),), ())))
+        self.assertIs(False, is_run(((send(0), take(0, 0)),)))
+        self.assertIs(False, is_run(((send(1),),)))
+
+    def test_wrong_takes(self):
+        self.assertIs(True, is_run(((send(1),), (take(0, 0),))))
+        self.assertIs(False, is_run(((send(1),), (take(0, 0), take(0, 0)))))
+        self.assertIs(False, is_run(((send(1),), (), (take(0, 0),))))
+        self.assertIs(False, is_run(((send(1),), (take(0, 0),), (take(0, 0),))))
+        self.assertIs(False, is_run(((DO,), (take(0, 0),))))
+        self.assertIs(False, is_run(((send(1),), (take(0, 1),))))
+        self.assertIs(False, is_run(((), (take(0, 0),))))
+        self.assertIs(False, is_run(((send(1),), (take(2, 0),))))
+        self.assertIs(False, is_run(((send(1),), (DO, take(1, 0)))))
+        self.assertIs(False, is_run(((send(1),), (take(0, 0),), (take(1, 0),))))
+
+    def test_rings(self):
+        self.assertIs(False, is_run(((take(1, 1), send(1)), (take(0, 1), send(0)))))
+        self.assertIs(True, is_run(((send(1), take(1, 1)), (take(0, 0), send(0)))))
+        self.assertIs(False, is_run(((take(2, 1), send(1)), (take(0, 1), send(2)), (take(1, 1), send(0)))))
+        self.assertIs(True, is_run(((send(1), take(2, 1)), (take(0, 0), send(2)), (take(1, 1), send(0)))))
+
+    def test_lists_at_any_depth(self):
+        self.assertIs(True, is_run(((do(("a", 1)), send(1)), ())))
+        for thing in ([(DO,)], ([DO],), ([[], ()],), (([(), ()],),), ((([], ()),),), ((((), []),),),
+                      (((["send", 1], ()),), ()), ((((), [("a", 1)]),),), ((((), (["a", 1],)),),)):
+            self.assertIs(False, is_run(thing), thing)
+
+    def test_of_anything(self):
+        for call in (is_run, is_deed, is_name):
+            check_anything(self, call)
+
+    def test_changed_runs(self):
+        """A run with one thing otherwise is one just where each word of the document says so."""
+        rng = random.Random(2)
+        told = []
+        for run in samples.random_runs(3, 400, 14):
+            changed = changed_run(rng, run)
+            told.append(is_run(changed))
+            self.assertIs(told[-1], run_by_definition(changed), changed)
+        self.assertGreater(told.count(True), 50)
+        self.assertGreater(told.count(False), 50)
+
+
+def changed_run(rng, run):
+    """Two deeds change their places, or a take or a sending is otherwise."""
+    rows = [list(row) for row in run]
+    found = samples.places(run)
+    if len(found) < 2:
+        return run
+    (one, low), (other, high) = rng.sample(found, 2)
+    if rng.random() < 0.6:
+        rows[one][low], rows[other][high] = rows[other][high], rows[one][low]
+    else:
+        rows[one][low] = rng.choice((take(other, high), send(other), DO))
+    return tuple([tuple(row) for row in rows])
+
+
+def run_by_definition(run):
+    """Of rows of deeds by their forms: letters fit, none is taken twice, no deed is ahead of itself."""
+    taken = []
+    for hand, place in samples.places(run):
+        act = run[hand][place][0]
+        if act[:1] == ("send",) and (act[1] == hand or act[1] >= len(run)):
+            return False
+        if act[:1] == ("take",):
+            if act[1:] in taken or act[1:] not in samples.places(run):
+                return False
+            if run[act[1]][act[2]][0] != ("send", hand):
+                return False
+            taken.append(act[1:])
+    pairs = samples.known_pairs(run)
+    return not any(one != other and (other, one) in pairs for one, other in pairs)
+
+
+class DeedsOf(unittest.TestCase):
+
+    def test_rising(self):
+        self.assertEqual((), deeds_of(samples.EMPTY))
+        self.assertEqual((), deeds_of(samples.HANDS_WITHOUT_DEEDS))
+        self.assertEqual(((0, 0), (0, 1), (1, 0)), deeds_of(samples.WRITTEN))
+        self.assertEqual(((0, 0), (2, 0), (2, 1)), deeds_of(((DO,), (), (DO, DO))))
+        for run in samples.random_runs(4, 50):
+            self.assertEqual(tuple(samples.places(run)), deeds_of(run))
+
+    def test_refusals(self):
+        arguments = [("run", "run", samples.WRITTEN)]
+        check_call(self, deeds_of, arguments)
+        check_places(self, deeds_of, arguments)
+
+
+class WorthOf(unittest.TestCase):
+    RUN = ((do(("a", 5)), do(("b", 1)), do(("a", 7), ("b", 0)), DO, do(("a", 0))), (do(("b", 9)),), ())
+
+    def test_each_count(self):
+        self.assertEqual([0, 5, 5, 7, 7, 0], [worth_of(self.RUN, 0, count, "a") for count in range(6)])
+        self.assertEqual([0, 0, 1, 0, 0, 0], [worth_of(self.RUN, 0, count, "b") for count in range(6)])
+        self.assertEqual([0, 9], [worth_of(self.RUN, 1, count, "b") for count in range(2)])
+
+    def test_never_set(self):
+        self.assertEqual([0] * 6, [worth_of(self.RUN, 0, count, "zzzzzz") for count in range(6)])
+        self.assertEqual([0, 0], [worth_of(self.RUN, 1, count, "a") for count in range(2)])
+        self.assertEqual(0, worth_of(self.RUN, 2, 0, "a"))
+
+    def test_acts_set_too(self):
+        self.assertEqual([0, 1, 2, 2], [worth_of(samples.ASKED, 0, count, "x") for count in range(4)])
+        self.assertEqual([0, 0, 7, 7], [worth_of(samples.ASKED, 1, count, "y") for count in range(4)])
+
+    def test_tells_a_whole_number(self):
+        self.assertIs(int, type(worth_of(self.RUN, 0, 0, "a")))
+
+    def test_refusals(self):
+        arguments = [("run", "run", samples.WRITTEN), ("hand", "hand", 0), ("count", "count", 2), ("name", "name", "x")]
+        check_call(self, worth_of, arguments)
+        check_places(self, worth_of, arguments)
+
+    def test_count_by_its_hand(self):
+        with self.assertRaises(NoNumber) as caught:
+            worth_of(samples.WRITTEN, 1, 2, "x")
+        self.assertEqual(2, caught.exception.number)
+        with self.assertRaises(NoHand):
+            worth_of(samples.WRITTEN, 2, 9, "X")
+
+
+class TakenBy(unittest.TestCase):
+
+    def test_taken(self):
+        self.assertEqual((1, 0), taken_by(samples.WRITTEN, (0, 0)))
+        self.assertEqual((1, 1), taken_by(samples.CROSSED, (0, 0)))
+        self.assertEqual((1, 0), taken_by(samples.CROSSED, (0, 1)))
+        self.assertEqual((0, 1), taken_by(samples.ASKED, (1, 1)))
+
+    def test_never_taken(self):
+        self.assertIsNone(taken_by(samples.CROSSED, (0, 2)))
+        self.assertIsNone(taken_by(samples.CROSSED, (0, 3)))
+
+    def test_sends_none(self):
+        self.assertIsNone(taken_by(samples.WRITTEN, (0, 1)))
+        self.assertIsNone(taken_by(samples.WRITTEN, (1, 0)))
+
+    def test_each_deed(self):
+        for run in samples.random_runs(5, 100, 20):
+            for deed in samples.places(run):
+                takers = [(hand, place) for hand, place in samples.places(run)
+                          if run[hand][place][0] == ("take", *deed)]
+                self.assertEqual(takers[0] if takers else None, taken_by(run, deed))
+
+    def test_refusals(self):
+        arguments = [("run", "run", samples.WRITTEN), ("deed", "deed", (0, 0))]
+        check_call(self, taken_by, arguments)
+        check_places(self, taken_by, arguments)
+
+
+if __name__ == "__main__":
+    unittest.main()

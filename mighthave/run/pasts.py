@@ -2,15 +2,18 @@
 
 from mighthave.errors import NoHand, NoMoment
 from mighthave.run.runs import MOST_IN_ALL, is_place, need_hand, need_place, need_run
-from mighthave.run.shapes import is_row, is_whole
+from mighthave.run.shapes import is_row
 from mighthave.run.steps import full_counts, is_under, least_with, letter_taken, no_counts
 
 
 def has_counts(run, thing):
     """Whether it is a row of counts, one for each hand, none beyond its hand's deeds."""
-    if not is_row(thing, len(run), len(run)):
+    if type(thing) is not tuple or len(thing) != len(run):
         return False
-    return all([is_whole(count, 0, len(row)) for count, row in zip(thing, run)])
+    for count, row in zip(thing, run):
+        if type(count) is not int or not 0 <= count <= len(row):
+            return False
+    return True
 
 
 def is_moment_of(run, thing):
@@ -18,9 +21,8 @@ def is_moment_of(run, thing):
     if not has_counts(run, thing):
         return False
     for row, count in zip(run, thing):
-        for deed in row[:count]:
-            letter = letter_taken(deed)
-            if letter is not None and letter[1] >= thing[letter[0]]:
+        for act, _ in row[:count]:
+            if len(act) == 3 and act[2] >= thing[act[1]]:
                 return False
     return True
 

@@ -2,7 +2,7 @@
 
 from mighthave.errors import NoHand, NoName, NoNumber, NoPlace, NoRun
 from mighthave.run.shapes import is_row, is_whole
-from mighthave.run.steps import full_counts, is_ready, letter_sent, letter_taken, taker_of
+from mighthave.run.steps import taker_of
 
 MOST_HANDS = 6
 MOST_DEEDS = 12
@@ -15,88 +15,119 @@ LETTERS = "abcdefghijklmnopqrstuvwxyz"
 
 def is_name(thing):
     """Whether it is a text of one to six small letters."""
-    if type(thing) != str or not 1 <= len(thing) <= MOST_LETTERS:
-        return False
-    return all([sign in LETTERS for sign in thing])
+    return type(thing) is str and 1 <= len(thing) <= MOST_LETTERS and not thing.strip(LETTERS)
 
 
 def is_deed(thing):
     """Whether it has the form of a deed, whatever run it is to stand in."""
-    return is_row(thing, 2, 2) and is_act(thing[0]) and are_sets(thing[1])
+    return are_deeds((thing,))
+
+
+def are_deeds(things):
+    """Whether each one of a row has the form of a deed.
+
+    Whoever hands in a run has all its deeds looked at: so here, and in what this asks, nothing is
+    called that can be done without, and no more is asked of an act or of sets that are ().
+    """
+    for thing in things:
+        if type(thing) is not tuple or len(thing) != 2:
+            return False
+        act, sets = thing
+        if act != () and not is_act(act) or sets != () and not are_sets(sets):
+            return False
+    return True
 
 
 def is_act(thing):
     """Whether it has the form of what a deed does."""
-    if not is_row(thing, 0, 3):
+    if type(thing) is not tuple:
         return False
     if len(thing) == 2:
-        return thing[0] == "send" and is_whole(thing[1], 0, MOST_HANDS - 1)
+        word, hand = thing
+        return word == "send" and type(hand) is int and 0 <= hand < MOST_HANDS
     if len(thing) == 3:
         word, hand, place = thing
-        return word == "take" and is_whole(hand, 0, MOST_HANDS - 1) and is_whole(place, 0, MOST_DEEDS - 1)
+        if word != "take" or type(hand) is not int or type(place) is not int:
+            return False
+        return 0 <= hand < MOST_HANDS and 0 <= place < MOST_DEEDS
     return len(thing) == 0
 
 
 def are_sets(thing):
     """Whether it has the form of what a deed sets."""
-    if not is_row(thing, 0, MOST_SETS) or not all([is_setting(pair) for pair in thing]):
+    if type(thing) is not tuple or len(thing) > MOST_SETS:
         return False
-    names = [pair[0] for pair in thing]
-    return names == sorted(set(names))
-
-
-def is_setting(thing):
-    """Whether it is a pair of a name and a number that a deed may set."""
-    return is_row(thing, 2, 2) and is_name(thing[0]) and is_whole(thing[1], 0, MOST_WORTH)
+    ahead = ""
+    for pair in thing:
+        if type(pair) is not tuple or len(pair) != 2:
+            return False
+        name, number = pair
+        if type(number) is not int or not 0 <= number <= MOST_WORTH:
+            return False
+        if type(name) is not str or not ahead < name or len(name) > MOST_LETTERS or name.strip(LETTERS):
+            return False
+        ahead = name
+    return True
 
 
 def is_run(thing):
     """Whether it is a run."""
-    if not is_row(thing, 1, MOST_HANDS) or not all([is_hands_row(row) for row in thing]):
+    if not is_row(thing, 1, MOST_HANDS):
         return False
-    if sum(full_counts(thing)) > MOST_IN_ALL:
-        return False
-    return all_fit(thing) and is_each_taken_once(thing) and has_an_order(thing)
+    many = 0
+    for row in thing:
+        if not is_hands_row(row):
+            return False
+        many += len(row)
+    return many <= MOST_IN_ALL and do_letters_fit(thing)
 
 
 def is_hands_row(thing):
     """Whether it is a row of deeds by their forms."""
-    return is_row(thing, 0, MOST_DEEDS) and all([is_deed(deed) for deed in thing])
+    return is_row(thing, 0, MOST_DEEDS) and are_deeds(thing)
 
 
-def all_fit(rows):
-    """Whether each letter goes to another hand, and each take has a letter sent to its hand."""
-    return all([fits_at(rows, hand, deed) for hand, row in enumerate(rows) for deed in row])
+def do_letters_fit(rows):
+    """Whether each letter goes to another hand, and all takes find theirs in some order of all deeds."""
+    takes = []
+    for hand, row in enumerate(rows):
+        for place, (act, _) in enumerate(row):
+            if len(act) == 3:
+                takes.append((hand, place, act[1], act[2]))
+            elif len(act) == 2 and (act[1] == hand or act[1] >= len(rows)):
+                return False
+    return are_sent(rows, takes) and have_an_order(takes)
 
 
-def fits_at(rows, hand, deed):
-    """Whether a deed of this hand has such a hand to send to, or such a letter to take."""
-    other = letter_sent(deed)
-    if other is not None:
-        return other < len(rows) and other != hand
-    letter = letter_taken(deed)
-    if letter is None:
-        return True
-    return is_place(rows, letter) and letter_sent(rows[letter[0]][letter[1]]) == hand
+def are_sent(rows, takes):
+    """Whether each letter that is taken is sent to this hand, and none is taken twice.
+
+    takes: rising rows of the taking hand and place, and the letter's hand and place.
+    """
+    letters = []
+    for hand, _, other, at in takes:
+        if other >= len(rows) or at >= len(rows[other]) or rows[other][at][0] != ("send", hand):
+            return False
+        letters.append((other, at))
+    return len(letters) == len(set(letters))
 
 
-def is_each_taken_once(rows):
-    """Whether no letter is taken twice."""
-    taken = [letter_taken(deed) for row in rows for deed in row if letter_taken(deed) is not None]
-    return len(taken) == len(set(taken))
+def have_an_order(takes):
+    """Whether, of such rows of takes, none must wait for ever.
 
-
-def has_an_order(rows):
-    """Whether all deeds can be done one by one, none ahead of what it stands behind."""
-    counts = [0] * len(rows)
-    going = True
-    while going:
-        going = False
-        for hand in range(len(rows)):
-            while is_ready(rows, counts, hand):
-                counts[hand] += 1
-                going = True
-    return tuple(counts) == full_counts(rows)
+    Only a take waits for anything else than what is ahead in its row: so a letter can be
+    sent as soon as no take that is still to wait stands ahead of its sending.
+    """
+    waiting = takes
+    while waiting:
+        firsts = {}
+        for hand, place, _, _ in waiting:
+            firsts.setdefault(hand, place)
+        still = [take for take in waiting if firsts.get(take[2], MOST_DEEDS) < take[3]]
+        if len(still) == len(waiting):
+            return False
+        waiting = still
+    return True
 
 
 def is_place(run, thing):

@@ -1,23 +1,20 @@
 """How deeds lead from count to count.
 
 Nothing is looked at here before it is used: what is handed in was found well by who calls.
+So an act is known by its length: nothing has 0, a sending 2, a take 3.
 """
 
 
 def letter_taken(deed):
     """The (hand, place) of the deed whose letter it takes, or None."""
     act = deed[0]
-    if act[:1] == ("take",):
-        return act[1:]
-    return None
+    return act[1:] if len(act) == 3 else None
 
 
 def letter_sent(deed):
     """The hand that it sends a letter to, or None."""
     act = deed[0]
-    if act[:1] == ("send",):
-        return act[1]
-    return None
+    return act[1] if len(act) == 2 else None
 
 
 def no_counts(run):
@@ -36,8 +33,9 @@ def taker_of(run, deed):
     other = letter_sent(run[hand][place])
     if other is None:
         return None
-    for at, taking in enumerate(run[other]):
-        if letter_taken(taking) == deed:
+    taking = ("take", hand, place)
+    for at, (act, _) in enumerate(run[other]):
+        if act == taking:
             return (other, at)
     return None
 
@@ -77,14 +75,16 @@ def least_with(run, deed):
     waiting = [deed]
     while waiting:
         hand, place = waiting.pop()
-        for at in range(counts[hand], place + 1):
-            letter = letter_taken(run[hand][at])
-            if letter is not None:
-                waiting.append(letter)
+        for act, _ in run[hand][counts[hand]:place + 1]:
+            if len(act) == 3:
+                waiting.append(act[1:])
         counts[hand] = max(counts[hand], place + 1)
     return tuple(counts)
 
 
 def is_under(one, other):
     """Whether no count of the one is greater than the other's."""
-    return all([low <= high for low, high in zip(one, other)])
+    for low, high in zip(one, other):
+        if low > high:
+            return False
+    return True

@@ -4,7 +4,8 @@ A CALL is told by what it is called with, argument by argument as the interface 
 them, and for each argument by what is none of its kind and how that is refused.
 """
 
-from mighthave.errors import NoHand, NoMoment, NoMoments, NoName, NoNumber, NoPlace, NoRun, NoWay
+from mighthave.errors import NoCounts, NoHand, NoMoment, NoMoments, NoName, NoNumber, NoPlace, NoRun, NoSaying
+from mighthave.errors import NoSlice, NoTest, NoWay
 from tests.samples import DEEP, DO, ODD, WRITTEN, send, take
 
 BEARS = {NoHand: "hand", NoPlace: "deed", NoNumber: "number"}
@@ -29,6 +30,49 @@ NO_CLIMBS = tuple([thing for thing in ODD if thing != ()]) + (
     ((0, 0), (True, 0)), (0, 0), ((0, 0), (3, 1)),
 )
 NO_MOSTS = ODD + (0, 5001, "1", (1,), [2000])
+NO_TESTS = ODD + (
+    0, "done", ("done",), ("done", 13), ("done", -1), ("done", True), ("done", "1"), ("done", 1, 1), ["done", 1],
+    ("is", "a"), ("is", 1), ("is", "a", 100), ("is", "A", 1), ("least", "a", -1), ("most", "abcdefg", 1),
+    ("most", "a", True), ("is", ["a"], 1), ("is", "a", 1, 1), ("just", "a", 1), ("not",), ("not", ()), ("not", None),
+    ("not", ("done", 1), ("done", 1)), ("not", "done", 1), ("and", ()), ("and", (("done", 1),)), ("and",),
+    ("and", ("done", 1), ("done", 1)), ("and", [("done", 1), ("done", 1)]), ("or", (("done", 1),) * 5),
+    ("or", (("done", 1), None)), ("or", None), ("or", 2), ("or", {"a": 1, "b": 2}), (["done"], 1), (("done", 1),),
+    ({}, 1), ((), "a", 1), ("nor", (("done", 1), ("done", 1))), ("end",), ("all", ()),
+)
+NO_SAYINGS = ODD + (
+    0, "begin", ("begin", 0), ("end", ()), ["end"], ("hand", 0), ("hand", 2, ("done", 1)), ("hand", True, ("done", 1)),
+    ("hand", 0, ("done", 13)), ("hand", 0, ("end",)), ("hand", 0, ("done", 1), 0), ("done", 1), ("road", 0, 1, "most"),
+    ("road", 0, 0, "most", 1), ("road", 0, 2, "most", 1), ("road", 2, 0, "most", 1), ("road", 0, 1, "is", 1),
+    ("road", 0, 1, "most", 13), ("road", 0, 1, "most", -1), ("road", 0, True, "most", 1), ("road", False, 1, "most", 1),
+    ("road", 0, 1, ["most"], 1), ("road", 0, 1, "most", True), ("road", 0, 1, "most", 1, 1), ("all",), ("all", None),
+    ("all", ("end",)), ("all", [("end",)]), ("all", (("end",),) * 5), ("all", (("end",), None)), ("all", ("end",), ()),
+    ("till", ("end",)), ("till", ("end",), None), ("till", ("end",), ["end"]), ("till", (("end",), ("end",))),
+    ("since", ("end",), ("end",), ("end",)), ("on",), ("on", "end"), ("on", ("end",), ("end",)), ("back", ()),
+    ("knows", ("end",)), ("knows", 2, ("end",)), ("knows", True, ("end",)), ("knows", 0, ("end",), ("end",)),
+    ("holds", -1, ("end",)), ("holds", 0, ("done", 1)), ("holds", 0, "end"), (["end"],), (("end",),), ({},), ("END",),
+)
+# Of the run WRITTEN: each of these is the slice of no lot.
+NO_SLICES = tuple([thing for thing in ODD if thing is not None]) + (
+    0, (None, None), ((0, 0),), ((0, 0), ((None, None), (None,)), ()), ((0, 0), ((None, None), ())), ((0, 0), ()),
+    ((0, 0), ((None,), (None,))), ((0, 0), ((None, None, None), (None,))), ((0, 0), ((None, None), (None,), ())),
+    [(0, 0), ((None, None), (None,))], ([0, 0], ((None, None), (None,))), ((0, 0), [(None, None), (None,)]),
+    ((0, 0), ([None, None], (None,))), ((0, 0), (((1, 0), [2, 0]), (None,))), ((0, False), ((None, None), (None,))),
+    ((0, 1), (((1, 1), None), ((1, 1),))), ((1, 0), ((None, None), (None,))), ((0, 0), ((None, (2, 0)), (None,))),
+    ((0, 0), (((2, 0), (1, 0)), (None,))), ((0, 0), (((1, 0), (1, 0)), (None,))), ((0, 0), (((True, 0), None), (None,))),
+    ((1, 0), (((2, 0), (2, 0)), (None,))), ((1, 0), (((0, 0), None), (None,))), ((0, 0), (((1, 1), None), (None,))),
+    ((0, 0), (((1, 0), (2, 0)), ((0, 1),))), ((0, 0), (((1, 0), (2, 0)), ((3, 1),))), ((0, 0), ("ab", "c")),
+    ((0, 0), (((1, 0), 0), (None,))), ((0, 0), (((1, 0), ()), (None,))), ((0, 0), (((1, 0), (2,)), (None,))),
+)
+NO_COUNT_ROWS = tuple([thing for thing in ODD if thing != ()]) + (
+    0, [0], [0, 1], (3,), (0, 3), (1, 0), (1, 1), (0, 0), (True,), (0, True), ("0",), ((0,),), "01", (0, 1, 2, 3),
+    {0: 1}, (0, None), (2, 1, 0),
+)
+NO_SPANNING = ODD + (
+    0, (0, 0), [(0, 0)], ((0, 1),), ((1, 0), (0, 1)), ((1, 0), [2, 0]), ((1, 0), None), (((1, 0),),), ((True, 0),),
+    ((3, 0),), ((0, 0), (0, 0, 0)), ((0, 0), ()), {(0, 0): 1}, "00",
+)
+NO_ROAD_WORDS = ODD + (0, "is", "Most", "most ", ("most",), ["most"], "all", {"most": 1})
+NO_LETTERS = ODD + (13, 100, "0", (0,), [1], {})
 
 KINDS = {
     "run": (NoRun, NO_RUNS),
@@ -40,6 +84,13 @@ KINDS = {
     "way": (NoWay, NO_WAYS),
     "moments": (NoMoments, NO_CLIMBS),
     "most": (NoNumber, NO_MOSTS),
+    "test": (NoTest, NO_TESTS),
+    "saying": (NoSaying, NO_SAYINGS),
+    "lot": (NoSlice, NO_SLICES),
+    "counts": (NoCounts, NO_COUNT_ROWS),
+    "spanning": (NoMoments, NO_SPANNING),
+    "word": (NoSaying, NO_ROAD_WORDS),
+    "letters": (NoNumber, NO_LETTERS),
 }
 
 
@@ -89,7 +140,8 @@ def check_places(test, call, arguments):
 
 def check_anything(test, call, *well):
     """Of anything the call tells a truth, never an error."""
-    for thing in NO_RUNS + NO_MOMENTS + NO_PLACES + NO_WAYS + NO_CLIMBS + (DEEP, [DEEP]):
+    things = NO_RUNS + NO_MOMENTS + NO_PLACES + NO_WAYS + NO_CLIMBS + NO_TESTS + NO_SAYINGS + NO_SLICES
+    for thing in things + NO_COUNT_ROWS + NO_SPANNING + (DEEP, [DEEP]):
         before = repr(thing)
         test.assertIs(bool, type(call(*well, thing)), f"{call.__name__} of {thing!r}")
         test.assertEqual(before, repr(thing))

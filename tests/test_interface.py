@@ -18,6 +18,20 @@ FILES = {
         "can_go_on(run, moment)", "can_go_back(run, moment)", "is_way(run, thing)", "stands_of(run, way)",
         "way_by(run, *, moments=())", "all_moments(run, *, most=2000)",
     ),
+    "mighthave.say.own": (
+        "is_test(thing)", "holds_at(run, hand, count, test)", "where(run, hand, test)", "stretches(run, hand, test)",
+    ),
+    "mighthave.say.sayings": (
+        "is_saying(run, thing)", "size_of(run, saying)", "hands_of(run, saying)", "meant(run, saying, *, most=2000)",
+    ),
+    "mighthave.lots.slices": (
+        "is_slice(run, thing)", "own_slice(run)", "spanned(run, moments)", "is_in(run, lot, moment)",
+        "up_from(run, lot, moment)", "down_from(run, lot, moment)", "least_in(run, lot)", "greatest_in(run, lot)",
+        "barred_in(run, lot)", "knots_in(run, lot)",
+    ),
+    "mighthave.lots.plain": (
+        "hand_slice(run, hand, counts)", "road_slice(run, one, other, word, k)", "begin_slice(run)", "end_slice(run)",
+    ),
 }
 
 

@@ -3,7 +3,8 @@
 from mighthave.errors import NoHand, NoMoment
 from mighthave.run.runs import MOST_IN_ALL, is_place, need_hand, need_place, need_run
 from mighthave.run.shapes import is_row
-from mighthave.run.steps import full_counts, is_under, least_with, letter_taken, no_counts
+from mighthave.run.steps import full_counts, is_under, joined, least_with, letter_taken, met, no_counts
+from mighthave.run.steps import sent_along, taken_along
 
 
 def has_counts(run, thing):
@@ -82,13 +83,13 @@ def is_below(run, one, other):
 def meet(run, one, other):
     """The greatest moment at or below both."""
     need_run_and_moments(run, one, other)
-    return tuple([min(low, high) for low, high in zip(one, other)])
+    return met(one, other)
 
 
 def join(run, one, other):
     """The least moment at or above both."""
     need_run_and_moments(run, one, other)
-    return tuple([max(low, high) for low, high in zip(one, other)])
+    return joined(one, other)
 
 
 def has(run, moment, deed):
@@ -162,6 +163,4 @@ def under_way(run, one, other, moment):
     need_run(run)
     need_road(run, one, other)
     need_moment(run, moment)
-    sent = [act for act, _ in run[one][:moment[one]] if act == ("send", other)]
-    taken = [act for act, _ in run[other][:moment[other]] if act[:2] == ("take", one)]
-    return len(sent) - len(taken)
+    return sent_along(run, one, other)[moment[one]] - taken_along(run, one, other)[moment[other]]

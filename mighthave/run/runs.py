@@ -1,8 +1,8 @@
 """Names, deeds and runs: what they are, and what a run's deeds set and send."""
 
-from mighthave.errors import NoHand, NoName, NoNumber, NoPlace, NoRun
+from mighthave.errors import NoCounts, NoHand, NoName, NoNumber, NoPlace, NoRun
 from mighthave.run.shapes import is_row, is_whole
-from mighthave.run.steps import taker_of
+from mighthave.run.steps import taker_of, worths_along
 
 MOST_HANDS = 6
 MOST_DEEDS = 12
@@ -161,6 +161,15 @@ def need_count(run, hand, count):
         raise NoNumber(count)
 
 
+def need_counts(run, hand, counts):
+    """Refuse what is no rising row of counts of the hand's deeds."""
+    most = len(run[hand])
+    if not is_row(counts, 0, most + 1) or not all([is_whole(count, 0, most) for count in counts]):
+        raise NoCounts("no rising row of counts of the hand's deeds")
+    if not all([low < high for low, high in zip(counts, counts[1:])]):
+        raise NoCounts("counts that do not rise")
+
+
 def need_name(name):
     """Refuse what is no name."""
     if not is_name(name):
@@ -179,12 +188,7 @@ def worth_of(run, hand, count, name):
     need_hand(run, hand)
     need_count(run, hand, count)
     need_name(name)
-    worth = 0
-    for _, sets in run[hand][:count]:
-        for each, number in sets:
-            if each == name:
-                worth = number
-    return worth
+    return worths_along(run[hand][:count], name)[count]
 
 
 def taken_by(run, deed):

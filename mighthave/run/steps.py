@@ -17,6 +17,18 @@ def letter_sent(deed):
     return act[1] if len(act) == 2 else None
 
 
+def worths_along(row, name):
+    """The numbers that the name has behind none of the deeds, behind the first, and so on."""
+    worth = 0
+    worths = [worth]
+    for _, sets in row:
+        for each, number in sets:
+            if each == name:
+                worth = number
+        worths.append(worth)
+    return worths
+
+
 def no_counts(run):
     """The counts of BEGIN."""
     return (0,) * len(run)
@@ -88,3 +100,44 @@ def is_under(one, other):
         if low > high:
             return False
     return True
+
+
+def joined(one, other):
+    """The greater count of both at each hand."""
+    return tuple([low if low > high else high for low, high in zip(one, other)])
+
+
+def met(one, other):
+    """The lesser count of both at each hand."""
+    return tuple([low if low < high else high for low, high in zip(one, other)])
+
+
+def pasts_along(run):
+    """For each hand a row of its deeds' pasts."""
+    pasts = [[] for _ in run]
+    for hand in hands_between(run, no_counts(run), full_counts(run)):
+        place = len(pasts[hand])
+        past = pasts[hand][-1] if place > 0 else no_counts(run)
+        letter = letter_taken(run[hand][place])
+        if letter is not None:
+            past = joined(past, pasts[letter[0]][letter[1]])
+        pasts[hand].append(stepped(past, hand))
+    return tuple([tuple(row) for row in pasts])
+
+
+def sent_along(run, one, other):
+    """How many letters to the other hand the one sends by none of its deeds, by the first, and so on."""
+    return tallies([act == ("send", other) for act, _ in run[one]])
+
+
+def taken_along(run, one, other):
+    """How many letters of the one hand the other takes by none of its deeds, by the first, and so on."""
+    return tallies([len(act) == 3 and act[1] == one for act, _ in run[other]])
+
+
+def tallies(truths):
+    """How many hold of none of them, of the first, of the first two, and so on."""
+    tally = [0]
+    for truth in truths:
+        tally.append(tally[-1] + 1 if truth else tally[-1])
+    return tally

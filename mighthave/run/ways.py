@@ -97,6 +97,11 @@ def all_moments(run, *, most=MOST):
     """All moments of the run, rising, if there are no more than most."""
     need_run(run)
     need_most(most)
+    return moments_within(run, most)
+
+
+def moments_within(run, most):
+    """All moments, rising, or a refusal where there are more than most."""
     begin = no_counts(run)
     found = {begin: True}
     waiting = [begin]

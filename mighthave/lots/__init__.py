@@ -1,0 +1,1 @@
+"""Lots of moments, each known by its slice."""

@@ -93,6 +93,9 @@ class IsTest(unittest.TestCase):
     def test_wrong_words_and_lengths(self):
         for thing in NO_TESTS:
             self.assertIs(False, is_test(thing), thing)
+        for word in ("and", "or", "not", "done"):
+            self.assertIs(False, is_test((word, (ATOM, ATOM), (ATOM, ATOM))), word)
+            self.assertIs(False, is_test((word, (ATOM, ATOM), 1)), word)
         check_anything(self, is_test)
         self.assertIs(True, is_test(thing=ATOM))
 

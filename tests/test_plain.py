@@ -102,7 +102,8 @@ class RoadSlice(unittest.TestCase):
     def check(self, run, one, other, word, k):
         lot = {moment for moment in samples.moments_by_definition(run) if fits_road(run, moment, one, other, word, k)}
         self.assertTrue(is_lot(lot))
-        self.assertEqual(slice_by_definition(run, lot), road_slice(run, one, other, word, k), (run, one, other, word, k))
+        told = road_slice(run, one, other, word, k)
+        self.assertEqual(slice_by_definition(run, lot), told, (run, one, other, word, k))
 
     def test_plain(self):
         self.assertEqual(((1, 0), (((1, 0), (2, 0)), (None,))), road_slice(WRITTEN, 0, 1, "least", 1))
@@ -123,15 +124,18 @@ class RoadSlice(unittest.TestCase):
                     for k in (0, 1, 2, 3, 4, 12):
                         self.check(run, one, other, word, k)
 
-    def test_taken_in_another_order_or_never(self):
+    def test_taken_in_another_order(self):
         for run in (CROSSED, ROUND):
             for one, other in itertools.permutations(range(len(run)), 2):
                 for word in ROAD_WORDS:
                     for k in range(13):
                         self.check(run, one, other, word, k)
-        self.assertIsNone(road_slice(((send(1), send(1)), ()), 0, 1, "just", 3))
-        self.assertEqual((1, 0), least_in(((send(1), send(1)), ()), road_slice(((send(1), send(1)), ()), 0, 1, "just", 1)))
-        self.assertEqual(((0, 1),), barred_in(((send(1), send(1)), ()), road_slice(((send(1), send(1)), ()), 0, 1, "most", 1)))
+
+    def test_never_taken(self):
+        run = ((send(1), send(1)), ())
+        self.assertIsNone(road_slice(run, 0, 1, "just", 3))
+        self.assertEqual((1, 0), least_in(run, road_slice(run, 0, 1, "just", 1)))
+        self.assertEqual(((0, 1),), barred_in(run, road_slice(run, 0, 1, "most", 1)))
 
     def test_no_letters(self):
         for run in (HANDS_WITHOUT_DEEDS, FREE):

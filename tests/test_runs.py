@@ -128,6 +128,45 @@ class Runs(unittest.TestCase):
         self.assertGreater(told.count(False), 50)
 
 
+    def test_takes_put_elsewhere(self):
+        """Letters all fit, each is taken once: just the order of all deeds tells whether it is a run."""
+        rng = random.Random(7)
+        told = []
+        for run in samples.random_runs(8, 300, 48):
+            for _ in range(9):
+                run = with_a_take_elsewhere(rng, run)
+                told.append(is_run(run))
+                self.assertIs(told[-1], has_an_order_by_definition(run), run)
+        self.assertGreater(told.count(True), 100)
+        self.assertGreater(told.count(False), 100)
+
+
+def with_a_take_elsewhere(rng, run):
+    """A take changes its place with some deed of its hand that sends nothing."""
+    rows = [list(row) for row in run]
+    quiet = [(hand, place) for hand, place in samples.places(run) if run[hand][place][0][:1] != ("send",)]
+    takes = [(hand, place) for hand, place in quiet if run[hand][place][0] != ()]
+    if takes:
+        hand, place = rng.choice(takes)
+        other = rng.choice([at for each, at in quiet if each == hand])
+        rows[hand][place], rows[hand][other] = rows[hand][other], rows[hand][place]
+    return tuple([tuple(row) for row in rows])
+
+
+def has_an_order_by_definition(run):
+    """Deed by deed, each as soon as the one ahead of it and its letter's sending are done."""
+    left = samples.places(run)
+    going = True
+    while going:
+        going = False
+        for hand, place in list(left):
+            act = run[hand][place][0]
+            if (hand, place - 1) not in left and not (act[:1] == ("take",) and act[1:] in left):
+                left.remove((hand, place))
+                going = True
+    return left == []
+
+
 def changed_run(rng, run):
     """Two deeds change their places, or a take or a sending is otherwise."""
     rows = [list(row) for row in run]

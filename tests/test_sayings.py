@@ -22,7 +22,10 @@ LETTERS = (
 )
 PAIR = ((DO, DO), (DO, DO))
 # Small enough to go all of their ways.
-RUNS = (EMPTY, HANDS_WITHOUT_DEEDS, ALONE, WRITTEN, ASKED, LETTERS, PAIR, ((send(1), send(1)), (take(0, 1), take(0, 0))))
+RUNS = (
+    EMPTY, HANDS_WITHOUT_DEEDS, ALONE, WRITTEN, ASKED, LETTERS, PAIR,
+    ((send(1), send(1)), (take(0, 1), take(0, 0))),
+)
 
 
 def within(many, atom=END):

@@ -39,7 +39,7 @@ def are_deeds(things):
 
 
 def is_act(thing):
-    """Whether it has the form of what a deed does."""
+    """Whether it has the form of a sending or a take."""
     if type(thing) is not tuple:
         return False
     if len(thing) == 2:
@@ -50,7 +50,7 @@ def is_act(thing):
         if word != "take" or type(hand) is not int or type(place) is not int:
             return False
         return 0 <= hand < MOST_HANDS and 0 <= place < MOST_DEEDS
-    return len(thing) == 0
+    return False
 
 
 def are_sets(thing):
@@ -164,7 +164,7 @@ def need_count(run, hand, count):
 def need_counts(run, hand, counts):
     """Refuse what is no rising row of counts of the hand's deeds."""
     most = len(run[hand])
-    if not is_row(counts, 0, most + 1) or not all([is_whole(count, 0, most) for count in counts]):
+    if type(counts) is not tuple or not all([is_whole(count, 0, most) for count in counts]):
         raise NoCounts("no rising row of counts of the hand's deeds")
     if not all([low < high for low, high in zip(counts, counts[1:])]):
         raise NoCounts("counts that do not rise")

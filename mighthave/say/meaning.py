@@ -97,21 +97,25 @@ def back_truths(field, saying):
     return told
 
 
+def by_counts(field, hand, part):
+    """For each count of the hand's deeds whether the moments with so many fulfil the part."""
+    told = [[] for _ in range(len(field.rows[hand]) + 1)]
+    for moment, truth in zip(field.moments, fulfilled(field, part)):
+        told[moment[hand]].append(truth)
+    return told
+
+
 def knows_truths(field, saying):
     """Where each moment with just as many deeds of the hand fulfils it."""
     _, hand, part = saying
-    known = [True] * (len(field.rows[hand]) + 1)
-    for moment, truth in zip(field.moments, fulfilled(field, part)):
-        known[moment[hand]] = known[moment[hand]] and truth
+    known = [all(truths) for truths in by_counts(field, hand, part)]
     return [known[moment[hand]] for moment in field.moments]
 
 
 def holds_truths(field, saying):
     """Where some moment with just as many deeds of the hand fulfils it."""
     _, hand, part = saying
-    held = [False] * (len(field.rows[hand]) + 1)
-    for moment, truth in zip(field.moments, fulfilled(field, part)):
-        held[moment[hand]] = held[moment[hand]] or truth
+    held = [any(truths) for truths in by_counts(field, hand, part)]
     return [held[moment[hand]] for moment in field.moments]
 
 

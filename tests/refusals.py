@@ -5,7 +5,7 @@ them, and for each argument by what is none of its kind and how that is refused.
 """
 
 from mighthave.errors import NoCounts, NoHand, NoMoment, NoMoments, NoName, NoNumber, NoPlace, NoRun, NoSaying
-from mighthave.errors import NoSlice, NoTest, NoWay
+from mighthave.errors import NoSayings, NoSlice, NoTest, NoWay
 from tests.samples import DEEP, DO, ODD, WRITTEN, send, take
 
 BEARS = {NoHand: "hand", NoPlace: "deed", NoNumber: "number"}
@@ -23,7 +23,8 @@ NO_MOMENTS = ODD + (
 NO_NAMES = tuple([thing for thing in ODD if thing != "send"]) + (0, "aB", "a ", "a\n", "ab1", ("a",), ["a"], "0")
 NO_COUNTS = ODD + (3, 4, "0", (0,), [1])
 NO_WAYS = ODD + (
-    (), (0, 0), (1, 0, 0), (0, 0, 1, 1), (0, 0, 0), (0, 1, True), (0, 1, 2), [0, 0, 1], "001", (0, 0, -1), (0, 0, None), 0,
+    (), (0, 0), (1, 0, 0), (0, 0, 1, 1), (0, 0, 0), (0, 1, True), (0, 1, 2), [0, 0, 1], "001", (0, 0, -1), (0, 0, None),
+    0,
 )
 NO_CLIMBS = tuple([thing for thing in ODD if thing != ()]) + (
     0, [(0, 0)], ((0, 1),), ((1, 0), (0, 0)), ((2, 0), (1, 1)), ((1, 1), (2, 0)), ((0, 0), [2, 1]), ((0, 0), None),
@@ -74,6 +75,19 @@ NO_SPANNING = ODD + (
 )
 NO_ROAD_WORDS = ODD + (0, "is", "Most", "most ", ("most",), ["most"], "all", {"most": 1})
 NO_LETTERS = ODD + (13, 100, "0", (0,), [1], {})
+# Each a row with one that is no slice, too many, or no row.
+NO_LOTS = tuple([thing for thing in ODD if thing not in ((), (None,))]) + (
+    0, (None,) * 5, [None], ((),), (None, ()), (None, 0), ((0, 0),), ((0, 0), ((None, None), (None,))), [()], None,
+    ((None, None),), {"a": None}, (((0, 0), ((None, None), (None,))), ((0, 1), ((None, None), (None,)))),
+)
+# Each a row with one that is no saying, of none, of too many, or no row.
+NO_SAYINGS_ROWS = ODD + (
+    0, (), (("end",),) * 7, [("end",)], ("end",), (("end",), None), (("end",), ("hand", 2, ("done", 1))),
+    (("begin",), ()), (["end"],), ((("end",),),), {("end",): 1}, "end", (("all", None),),
+    (("end",), ("road", 0, 2, "most", 0), ("end",)),
+)
+# Of the lot with all moments of the run WRITTEN: numbers of no moment are refused behind TooWide, these are not.
+NO_NUMBERS = tuple([thing for thing in ODD if thing != 10 ** 40 - 1]) + ("0", (0,), [1], {}, -2)
 
 KINDS = {
     "run": (NoRun, NO_RUNS),
@@ -92,6 +106,9 @@ KINDS = {
     "spanning": (NoMoments, NO_SPANNING),
     "word": (NoSaying, NO_ROAD_WORDS),
     "letters": (NoNumber, NO_LETTERS),
+    "lots": (NoSlice, NO_LOTS),
+    "sayings": (NoSayings, NO_SAYINGS_ROWS),
+    "number": (NoNumber, NO_NUMBERS),
 }
 
 

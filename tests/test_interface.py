@@ -32,6 +32,35 @@ FILES = {
     "mighthave.lots.plain": (
         "hand_slice(run, hand, counts)", "road_slice(run, one, other, word, k)", "begin_slice(run)", "end_slice(run)",
     ),
+    "mighthave.lots.together": (
+        "both(run, one, other)", "hull(run, one, other)", "is_within(run, one, other)", "witness(run, one, other)",
+        "shows_witness(run, one, other, thing)", "all_of(run, lots)",
+    ),
+    "mighthave.lots.ahead": (
+        "till(run, one, other)", "each_on(run, lot)", "till_paper(run, one, other, moment)",
+        "shows_till(run, one, other, moment, thing)", "on_denial(run, lot, moment)",
+    ),
+    "mighthave.lots.behind": (
+        "since(run, one, other)", "each_back(run, lot)", "since_paper(run, one, other, moment)",
+        "shows_since(run, one, other, moment, thing)", "back_denial(run, lot, moment)",
+    ),
+    "mighthave.lots.turned": ("turned(run)", "turned_moment(run, moment)", "turned_slice(run, lot)"),
+    "mighthave.lots.knowing": (
+        "low_at(run, hand, count)", "high_at(run, hand, count)", "knows_at(run, hand, lot)",
+        "holds_possible(run, hand, lot)", "knowing(run, hand, lot)", "holding(run, hand, lot)",
+        "doubt(run, hand, lot, moment)", "hangs_on_others(run, hand, lot)", "learned(run, hand, lot)",
+        "forgotten(run, hand, lot)",
+    ),
+    "mighthave.say.told": (
+        "tables_of(run, saying)", "shows_tables(run, saying, thing)", "slice_of(run, saying)",
+        "is_so(run, saying, moment)", "is_ever(run, saying)", "tells(run, one, other)", "are_one(run, one, other)",
+        "is_always(run, saying)",
+    ),
+    "mighthave.papers.might": ("might_have(run, sayings)", "shows_might(run, sayings, thing)"),
+    "mighthave.count.counts": (
+        "how_many(run, lot, *, most=2000)", "moments_in(run, lot, *, most=2000)",
+        "moment_at(run, lot, number, *, most=2000)", "number_of(run, lot, moment, *, most=2000)",
+    ),
 }
 
 

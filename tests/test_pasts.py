@@ -204,7 +204,8 @@ class Chains(unittest.TestCase):
 
     def test_shows_chain_refuses_as_chain_of(self):
         good = {"run": WRITTEN, "deed": (0, 0), "other": (1, 0), "thing": None}
-        for name, bad, refusal in (("run", ((),) * 7, "NoRun"), ("deed", (2, 0), "NoPlace"), ("other", None, "NoPlace")):
+        bads = (("run", ((),) * 7, "NoRun"), ("deed", (2, 0), "NoPlace"), ("other", None, "NoPlace"))
+        for name, bad, refusal in bads:
             self.assertEqual(refusal, type(raised(shows_chain, **{**good, name: bad})).__name__)
         error = raised(shows_chain, **{**good, "deed": (0, 2), "other": (1, 1)})
         self.assertEqual((0, 2), error.deed)

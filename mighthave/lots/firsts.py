@@ -1,10 +1,10 @@
-"""What a slice tells of its lot: the moments in it, up, down, the greatest; and slices made of what is up.
+"""What a slice tells of its lot: the moments in it, up, down, the greatest; and slices of lots within one.
 
 Nothing is looked at here before it is used: what is handed in was found well by who calls.
 A row of firsts of one hand rises, and has None behind all others: so its last one that counts tells of all.
 """
 
-from mighthave.run.steps import is_under, joined, met, no_counts
+from mighthave.run.steps import is_under, joined, met, no_counts, pasts_along
 
 
 def lies_in(lot, moment):
@@ -53,15 +53,54 @@ def greatest(lot):
     return tuple([len(row) - row.count(None) for row in lot[1]])
 
 
-def slice_by(pasts, up):
-    """The slice of a lot, by what tells of a moment the least one of the lot at or above it, or None.
+def beyond_between(own, lot, low, high):
+    """A moment from low to high that isn't the lot's, or None where all are; own: the run's own slice.
 
-    pasts: those of the run's deeds, for each hand a row.
+    All between are joins of low with pasts: so low must be the lot's, and with the past of each further deed
+    it must be at or above the lot's first of that deed.
     """
-    least = up(no_counts(pasts))
+    if not lies_in(lot, low):
+        return low
+    for pasts, firsts, count, most in zip(own[1], lot[1], low, high):
+        for past, first in zip(pasts[count:most], firsts[count:most]):
+            higher = joined(low, past)
+            if first is None or not is_under(first, higher):
+                return higher
+    return None
+
+
+def slice_of_own(run):
+    """The slice of all moments of the run."""
+    return (no_counts(run), pasts_along(run))
+
+
+def slice_within(lot, up):
+    """The slice of a lot within this one.
+
+    up: tells of a moment of this lot the least one of the other at or above it, or None.
+    """
+    if lot is None:
+        return None
+    least = up(lot[0])
     if least is None:
         return None
-    return (least, tuple([tuple([up(past) for past in row]) for row in pasts]))
+    return (least, tuple([ups_along(row, least, up) for row in lot[1]]))
+
+
+def ups_along(row, least, up):
+    """The firsts along a hand in the lot that has this least moment and is within the lot of the row.
+
+    They rise: so what is above one of the row's firsts and above the one ahead is looked for once for both.
+    """
+    ups = []
+    told = least
+    for first in row:
+        if first is None or told is None:
+            told = None
+        elif not is_under(first, told):
+            told = up(joined(first, told))
+        ups.append(told)
+    return tuple(ups)
 
 
 def slice_of_all(run, moments):

@@ -1,11 +1,11 @@
 """Slices of what is said most plainly: a hand's counts, letters under way on a road, BEGIN and END alone."""
 
 from mighthave.errors import NoNumber, NoSaying
-from mighthave.lots.firsts import slice_by
+from mighthave.lots.firsts import slice_of_own, slice_within
 from mighthave.run.pasts import need_road
 from mighthave.run.runs import MOST_DEEDS, need_counts, need_hand, need_run
 from mighthave.run.shapes import is_whole
-from mighthave.run.steps import full_counts, joined, no_counts, pasts_along, sent_along, taken_along
+from mighthave.run.steps import full_counts, joined, no_counts, sent_along, taken_along
 
 WORDS = ("most", "least", "just")
 
@@ -22,22 +22,25 @@ def need_letters(k):
         raise NoNumber(k)
 
 
-def slice_of_counts(run, hand, counts):
-    """The slice of the moments with a count of the hand among these."""
-    pasts = pasts_along(run)
+def slice_of_counts(own, hand, counts):
+    """The slice of the moments with a count of the hand among these; own: the run's own slice."""
+    pasts = own[1][hand]
 
     def up(moment):
         further = [count for count in counts if count >= moment[hand]]
         if further == []:
             return None
-        return moment if further[0] == moment[hand] else joined(moment, pasts[hand][further[0] - 1])
+        return moment if further[0] == moment[hand] else joined(moment, pasts[further[0] - 1])
 
-    return slice_by(pasts, up)
+    return slice_within(own, up)
 
 
-def slice_of_road(run, one, other, word, k):
-    """The slice of the moments with at most, at least, just k letters under way from the one hand to the other."""
-    pasts = pasts_along(run)
+def slice_of_road(run, own, road, word, k):
+    """The slice of the moments with at most, at least, just k letters under way from a hand to another one.
+
+    own: the run's own slice; road: both hands.
+    """
+    one, other = road
     sent = sent_along(run, one, other)
     taken = taken_along(run, one, other)
 
@@ -45,14 +48,14 @@ def slice_of_road(run, one, other, word, k):
         while moment is not None:
             gone, come = sent[moment[one]], taken[moment[other]]
             if word != "least" and gone - come > k:
-                moment = with_more(moment, taken, gone - k, pasts[other])
+                moment = with_more(moment, taken, gone - k, own[1][other])
             elif word != "most" and gone - come < k:
-                moment = with_more(moment, sent, come + k, pasts[one])
+                moment = with_more(moment, sent, come + k, own[1][one])
             else:
                 return moment
         return None
 
-    return slice_by(pasts, up)
+    return slice_within(own, up)
 
 
 def with_more(moment, tally, many, pasts):
@@ -81,7 +84,7 @@ def hand_slice(run, hand, counts):
     need_run(run)
     need_hand(run, hand)
     need_counts(run, hand, counts)
-    return slice_of_counts(run, hand, counts)
+    return slice_of_counts(slice_of_own(run), hand, counts)
 
 
 def road_slice(run, one, other, word, k):
@@ -90,7 +93,7 @@ def road_slice(run, one, other, word, k):
     need_road(run, one, other)
     need_word(word)
     need_letters(k)
-    return slice_of_road(run, one, other, word, k)
+    return slice_of_road(run, slice_of_own(run), (one, other), word, k)
 
 
 def begin_slice(run):

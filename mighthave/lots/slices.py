@@ -1,11 +1,12 @@
 """Slices: what they are, which moments are in them, and what they tell of their lots."""
 
 from mighthave.errors import NoMoments, NoSlice
-from mighthave.lots.firsts import down_in, greatest, lies_in, slice_of_all, up_in
+from mighthave.lots.firsts import down_in, greatest, lies_in, slice_of_all, slice_of_own, up_in
+from mighthave.lots.walks import knots_of
 from mighthave.run.pasts import has_counts, is_moment_of, need_moment
 from mighthave.run.runs import need_run
 from mighthave.run.shapes import is_row
-from mighthave.run.steps import is_under, no_counts, pasts_along
+from mighthave.run.steps import is_under, no_counts
 
 
 def is_slice_of(run, thing):
@@ -76,6 +77,12 @@ def need_run_and_slice(run, lot):
     need_slice(run, lot)
 
 
+def need_run_and_slices(run, one, other):
+    """Refuse what is no run, then what are no two slices of it."""
+    need_run_and_slice(run, one)
+    need_slice(run, other)
+
+
 def is_slice(run, thing):
     """Whether it is a slice of the run."""
     need_run(run)
@@ -85,7 +92,7 @@ def is_slice(run, thing):
 def own_slice(run):
     """The slice of all moments of the run."""
     need_run(run)
-    return (no_counts(run), pasts_along(run))
+    return slice_of_own(run)
 
 
 def spanned(run, moments):
@@ -139,13 +146,4 @@ def barred_in(run, lot):
 def knots_in(run, lot):
     """The knots of the lot: rising rows of the deeds that come all at once, by their one first."""
     need_run_and_slice(run, lot)
-    if lot is None:
-        return ()
-    least, firsts = lot
-    knots = {}
-    for hand, row in enumerate(firsts):
-        for place, first in enumerate(row):
-            if first is not None and place >= least[hand]:
-                knots.setdefault(first, []).append((hand, place))
-    # Deeds were gone through rising, so the knots rise, too.
-    return tuple([tuple(knot) for knot in knots.values() if len(knot) > 1])
+    return tuple([deeds for _, deeds in knots_of(lot)])

@@ -66,6 +66,11 @@ def stepped(moment, hand):
     return moment[:hand] + (moment[hand] + 1,) + moment[hand + 1:]
 
 
+def lowered(moment, hand):
+    """The counts with one deed fewer of the hand."""
+    return moment[:hand] + (moment[hand] - 1,) + moment[hand + 1:]
+
+
 def hands_between(run, low, high):
     """The hands, deed by deed, from one moment to another one at or above it.
 

@@ -1,0 +1,1 @@
+"""How many moments a lot has, and which."""

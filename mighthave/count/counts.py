@@ -1,0 +1,67 @@
+"""How many moments a lot has, which they are, and the number of each among them."""
+
+from mighthave.errors import NoMoment, NoNumber, TooWide
+from mighthave.lots.firsts import lies_in
+from mighthave.lots.slices import need_run_and_slice
+from mighthave.run.pasts import need_moment
+from mighthave.run.steps import joined
+from mighthave.run.ways import MOST, need_most
+
+
+def moments_of(lot, most):
+    """All moments of the lot, rising, or a refusal where there are more than most.
+
+    Each is come to from the least one by joining firsts of next deeds, hand by hand.
+    """
+    if lot is None:
+        return ()
+    least, firsts = lot
+    found = {least: True}
+    waiting = [least]
+    while waiting:
+        moment = waiting.pop()
+        for row, count in zip(firsts, moment):
+            if count < len(row) and row[count] is not None:
+                further = joined(moment, row[count])
+                if further not in found:
+                    found[further] = True
+                    waiting.append(further)
+        if len(found) > most:
+            raise TooWide(most)
+    return tuple(sorted(found))
+
+
+def how_many(run, lot, *, most=MOST):
+    """How many moments the lot has, if there are no more than most."""
+    need_run_and_slice(run, lot)
+    need_most(most)
+    return len(moments_of(lot, most))
+
+
+def moments_in(run, lot, *, most=MOST):
+    """All moments of the lot, rising, if there are no more than most."""
+    need_run_and_slice(run, lot)
+    need_most(most)
+    return moments_of(lot, most)
+
+
+def moment_at(run, lot, number, *, most=MOST):
+    """The moment of the lot that has this number among all, from 0, if there are no more than most."""
+    need_run_and_slice(run, lot)
+    if type(number) is not int or number < 0:
+        raise NoNumber(number)
+    need_most(most)
+    moments = moments_of(lot, most)
+    if number >= len(moments):
+        raise NoNumber(number)
+    return moments[number]
+
+
+def number_of(run, lot, moment, *, most=MOST):
+    """The number of the moment among all of the lot, from 0, if there are no more than most."""
+    need_run_and_slice(run, lot)
+    need_moment(run, moment)
+    if not lies_in(lot, moment):
+        raise NoMoment("this is no moment of the lot")
+    need_most(most)
+    return moments_of(lot, most).index(moment)

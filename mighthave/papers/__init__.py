@@ -1,0 +1,1 @@
+"""Papers that a judge walks: what might have been."""

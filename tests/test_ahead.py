@@ -12,7 +12,7 @@ from tests import samples
 from tests.definitions import slice_by_definition
 from tests.papers import Papers, check_denials, drawn, is_above, lots_of
 from tests.refusals import check_anything, check_call, check_places, raised
-from tests.samples import ASKED, DO, EMPTY, FREE, RELAY, WRITTEN
+from tests.samples import ASKED, DO, EMPTY, FREE, ODD, RELAY, WRITTEN
 from tests.test_together import pairs_of_lots, tiny_pairs
 from tests.walked import TINY, all_above, come_to, is_till_paper, till_by_walking
 
@@ -159,6 +159,10 @@ class ShowsTill(unittest.TestCase):
         for one, other in ((OWN, END), (OWN, None), (None, OWN)):
             check_anything(self, shows_till, WRITTEN, one, other, (1, 0))
         check_anything(self, shows_till, STAIRS, STEPS, end_slice(STAIRS), (0, 0, 0))
+        for thing in ODD:
+            for paper in (("knot", thing), ("way", thing), (thing, ()), (thing,), ("knot", (thing, thing)),
+                          ("way", (thing,))):
+                self.assertIs(False, shows_till(STAIRS, STEPS, end_slice(STAIRS), (0, 0, 0), paper), paper)
         self.assertIs(True, shows_till(thing=("way", (0, 1)), moment=(1, 0), other=END, one=OWN, run=WRITTEN))
         arguments = [("run", "run", WRITTEN), ("one", "lot", OWN), ("other", "lot", END), ("moment", "moment", (1, 0))]
         check_call(self, lambda run, one, other, moment: shows_till(run, one, other, moment, {}), arguments)

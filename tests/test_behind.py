@@ -12,7 +12,7 @@ from tests import samples
 from tests.definitions import slice_by_definition
 from tests.papers import Papers, check_denials, drawn, is_beneath, lots_of
 from tests.refusals import check_anything, check_call, check_places, raised
-from tests.samples import ASKED, DO, EMPTY, FREE, RELAY, WRITTEN
+from tests.samples import ASKED, DO, EMPTY, FREE, ODD, RELAY, WRITTEN
 from tests.test_together import pairs_of_lots, tiny_pairs
 from tests.walked import TINY, all_below, come_to, is_since_paper, since_by_walking
 
@@ -170,6 +170,10 @@ class ShowsSince(unittest.TestCase):
             check_anything(self, shows_since, WRITTEN, one, other, (1, 0))
             check_anything(self, shows_since, WRITTEN, one, other, (2, 1))
         check_anything(self, shows_since, STAIRS, STEPS, begin_slice(STAIRS), (2, 2, 1))
+        for thing in ODD:
+            for paper in (("knot", thing), ("way", thing, ()), (thing,), ("way", (0, 0, 0), thing),
+                          ("knot", (thing, thing)), (thing, (0, 0, 0), ()), ("way", (0, 0, 0), (thing,))):
+                self.assertIs(False, shows_since(STAIRS, STEPS, begin_slice(STAIRS), (2, 2, 1), paper), paper)
         self.assertIs(True, shows_since(thing=("way", (0, 0), (0,)), moment=(1, 0), other=BEGIN, one=OWN, run=WRITTEN))
         arguments = [("run", "run", WRITTEN), ("one", "lot", OWN), ("other", "lot", END), ("moment", "moment", (1, 0))]
         check_call(self, lambda run, one, other, moment: shows_since(run, one, other, moment, {}), arguments)

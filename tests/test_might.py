@@ -12,7 +12,7 @@ from mighthave.say.told import slice_of
 from tests import samples
 from tests.definitions import greater, is_counts_by_definition, random_saying
 from tests.refusals import NO_SAYINGS, check_anything, check_call, check_places, raised
-from tests.samples import ALONE, DO, EMPTY, FREE, RELAY, WRITTEN, below, is_way_by_definition
+from tests.samples import ALONE, DO, EMPTY, FREE, ODD, RELAY, WRITTEN, below, is_way_by_definition
 from tests.samples import stands_by_definition
 from tests.walked import least_of, otherwise
 
@@ -238,6 +238,15 @@ class ShowsMight(unittest.TestCase):
         for sayings in ((TAKEN, NOT_SENT), (TRUE,), (NEVER,), (("end",), SENT)):
             check_anything(self, shows_might, WRITTEN, sayings)
         self.assertIs(True, shows_might(thing=("never", ((0,),)), sayings=(NEVER,), run=WRITTEN))
+        way = way_by(WRITTEN)
+        for thing in ODD:
+            for paper in (("might", thing, way), ("might", (0, 0), thing), (thing, (0, 0), way),
+                          ("might", (0, 0), (thing,) * 3)):
+                self.assertIs(False, shows_might(WRITTEN, (TRUE,), paper), paper)
+            for paper in (("never", thing), (thing, ((0,),)), ("never", (thing,)), ("never", ((thing,),)),
+                          ("never", (thing, (0,))), ("never", ((thing, 0, 1), (0,))), ("never", ((0, thing, 1), (0,))),
+                          ("never", ((0, 0, thing), (0,)))):
+                self.assertIs(False, shows_might(WRITTEN, (SENT,), paper), paper)
         arguments = [("run", "run", WRITTEN), ("sayings", "sayings", (SENT, TAKEN))]
         check_call(self, lambda run, sayings: shows_might(run, sayings, []), arguments)
 

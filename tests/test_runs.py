@@ -100,6 +100,54 @@ class Runs(unittest.TestCase):
         self.assertIs(False, is_run(((send(1),), (DO, take(1, 0)))))
         self.assertIs(False, is_run(((send(1),), (take(0, 0),), (take(1, 0),))))
 
+    def test_takes_otherwise(self):
+        """Each thing in a take of another kind, or another number that counts from behind."""
+        sends, back = (DO, send(2), send(2)), (DO, send(0), send(0))
+        for hand, place in ((0, 1), (0, 2), (1, 1), (1, 2)):
+            self.assertIs(True, is_run((sends, sends, (take(hand, place),))))
+        wrong = (("send", 0, 1), ("Take", 1, 1), ("", 1, 1), ("take", False, 1), ("take", True, 1), ("take", 0, True),
+                 ("take", True, True), ("take", -3, 1), ("take", -2, 1), ("take", -1, 1), ("take", 0, -1),
+                 ("take", 0, -2),
+                 ("take", 0, -13), ("take", 3, 1), ("take", 6, 1), ("take", 0, 3), ("take", 0, 12), ("take", "0", 1),
+                 ("take", 0, "1"), ("take", None, 1), ("take", 0, None), ("take", (0,), 1), ("take", [0], 1),
+                 ("take", 0, [1]), (["take"], 0, 1), (None, 0, 1), (0, 0, 1), ("take", {}, 1), ("take", 0, {}),
+                 ("take", 0, 1, 1), ("take", 0), ("take",), ["take", 0, 1], "take", {"take": 0})
+        for act in wrong:
+            self.assertIs(False, is_run((sends, sends, ((act, ()),))), act)
+            self.assertIs(False, is_run((((act, ()),), back, back)), act)
+
+    def test_sends_otherwise(self):
+        for act in (("Send", 1), ("take", 1), ("", 1), ("send", True), ("send", -1), ("send", 2), ("send", "1"), [],
+                    ("send", None), ("send", (1,)), ("send", [1]), (["send"], 1), (None, 1), ("send",), ["send", 1],
+                    "send", {}, 0, None, False, (1, "send"), ("send", 1, 1, 1)):
+            self.assertIs(False, is_run((((act, ()),), ())), act)
+            self.assertIs(False, is_run((((act, ()),), (take(0, 0),))), act)
+
+    def test_names_again(self):
+        """A name that was well once is so again only where it rises."""
+        first = do(("a", 1), ("b", 2), ("c", 3))
+        for sets in ((("b", 1), ("a", 2)), (("a", 1), ("a", 2)), (("c", 1), ("b", 2)), (("b", 1), ("b", 1)),
+                     (("a", 1), ("c", 2), ("b", 3)), (("a", 1), ("b", 2), ("b", 3)), (("b", 1), ("c", 2), ("c", 2)),
+                     (("a", True),), (("a", 1), ("b", False)), (("", 1),), (("a", 1), ("", 1)), ((None, 1),),
+                     (([], 1),), ((("a",), 1),), (("a", 1), (None, 1)), (("a", 1), ([], 1)), (("A", 1),), (("abcdefg", 1),)):
+            self.assertIs(False, is_run(((first, ((), sets), first),)), sets)
+            self.assertIs(False, is_run(((first,), (((), sets),))), sets)
+            self.assertIs(False, is_run(((((), sets), first),)), sets)
+        for sets in ((("b", 1),), (("a", 1), ("c", 2)), (("b", 1), ("c", 2)), (("aa", 1), ("b", 2)),
+                     (("c", 0), ("d", 99))):
+            self.assertIs(True, is_run(((first, ((), sets), first, ((), sets)),)), sets)
+
+    def test_letters_to_and_fro(self):
+        """Ten letters between two hands, each awaited ahead of the next one."""
+        one = tuple([send(1) if at % 2 == 0 else take(1, at) for at in range(10)])
+        other = tuple([take(0, at) if at % 2 == 0 else send(0) for at in range(10)])
+        self.assertIs(True, is_run((one, other)))
+        self.assertIs(False, is_run((one[:9] + (take(1, 7),), other)))
+        for at in range(0, 10, 2):
+            row = list(one)
+            row[at], row[at + 1] = (row[at + 1], row[at])
+            self.assertIs(False, is_run((tuple(row), other)), at)
+
     def test_rings(self):
         self.assertIs(False, is_run(((take(1, 1), send(1)), (take(0, 1), send(0)))))
         self.assertIs(True, is_run(((send(1), take(1, 1)), (take(0, 0), send(0)))))
@@ -126,7 +174,6 @@ class Runs(unittest.TestCase):
             self.assertIs(told[-1], run_by_definition(changed), changed)
         self.assertGreater(told.count(True), 50)
         self.assertGreater(told.count(False), 50)
-
 
     def test_takes_put_elsewhere(self):
         """Letters all fit, each is taken once: just the order of all deeds tells whether it is a run."""

@@ -12,7 +12,7 @@ def has_counts(run, thing):
     if type(thing) is not tuple or len(thing) != len(run):
         return False
     for count, row in zip(thing, run):
-        if type(count) is not int or not 0 <= count <= len(row):
+        if type(count) is not int or count < 0 or count > len(row):
             return False
     return True
 
@@ -108,8 +108,23 @@ def past_of(run, deed):
 
 
 def reaches(run, deed, other):
-    """Whether the past of the other deed has this one."""
-    return deed[1] < least_with(run, other)[deed[0]]
+    """Whether the past of the other deed has this one.
+
+    Letters are gone back along till one from this deed's hand is met: what that hand did ahead of this
+    deed can't bring it.
+    """
+    one, place = deed
+    counts = [0] * len(run)
+    waiting = [other]
+    while waiting:
+        hand, at = waiting.pop()
+        if hand == one and at >= place:
+            return True
+        for act, _ in run[hand][counts[hand]:at + 1]:
+            if len(act) == 3:
+                waiting.append(act[1:])
+        counts[hand] = max(counts[hand], at + 1)
+    return False
 
 
 def is_known(run, deed, other):

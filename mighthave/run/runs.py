@@ -1,8 +1,8 @@
 """Names, deeds and runs: what they are, and what a run's deeds set and send."""
 
 from mighthave.errors import NoCounts, NoHand, NoName, NoNumber, NoPlace, NoRun
-from mighthave.run.shapes import is_row, is_whole
-from mighthave.run.steps import taker_of, worths_along
+from mighthave.run.shapes import is_whole
+from mighthave.run.steps import taker_of, worth_behind
 
 MOST_HANDS = 6
 MOST_DEEDS = 12
@@ -11,6 +11,7 @@ MOST_SETS = 3
 MOST_LETTERS = 6
 MOST_WORTH = 99
 LETTERS = "abcdefghijklmnopqrstuvwxyz"
+NOTHING_DONE = (((), ()),) * 12
 
 
 def is_name(thing):
@@ -20,121 +21,133 @@ def is_name(thing):
 
 def is_deed(thing):
     """Whether it has the form of a deed, whatever run it is to stand in."""
-    return are_deeds((thing,))
+    takes = takes_if_rows(((thing,),), MOST_HANDS, MOST_HANDS)
+    return takes is not None and all([is_take(act) for act in takes[0]])
 
 
-def are_deeds(things):
-    """Whether each one of a row has the form of a deed.
-
-    Whoever hands in a run has all its deeds looked at: so here, and in what this asks, nothing is
-    called that can be done without, and no more is asked of an act or of sets that are ().
-    """
-    for thing in things:
-        if type(thing) is not tuple or len(thing) != 2:
-            return False
-        act, sets = thing
-        if act != () and not is_act(act) or sets != () and not are_sets(sets):
-            return False
-    return True
-
-
-def is_act(thing):
-    """Whether it has the form of a sending or a take."""
-    if type(thing) is not tuple:
-        return False
-    if len(thing) == 2:
-        word, hand = thing
-        return word == "send" and type(hand) is int and 0 <= hand < MOST_HANDS
-    if len(thing) == 3:
-        word, hand, place = thing
-        if word != "take" or type(hand) is not int or type(place) is not int:
-            return False
-        return 0 <= hand < MOST_HANDS and 0 <= place < MOST_DEEDS
-    return False
-
-
-def are_sets(thing):
-    """Whether it has the form of what a deed sets."""
-    if type(thing) is not tuple or len(thing) > MOST_SETS:
-        return False
-    ahead = ""
-    for pair in thing:
-        if type(pair) is not tuple or len(pair) != 2:
-            return False
-        name, number = pair
-        if type(number) is not int or not 0 <= number <= MOST_WORTH:
-            return False
-        if type(name) is not str or not ahead < name or len(name) > MOST_LETTERS or name.strip(LETTERS):
-            return False
-        ahead = name
-    return True
+def is_take(act):
+    """Whether three things in a row are an act that takes a letter, whatever run it is to stand in."""
+    word, hand, place = act
+    return word == "take" and is_whole(hand, 0, MOST_HANDS - 1) and is_whole(place, 0, MOST_DEEDS - 1)
 
 
 def is_run(thing):
     """Whether it is a run."""
-    if not is_row(thing, 1, MOST_HANDS):
+    if type(thing) is not tuple or not 1 <= len(thing) <= MOST_HANDS:
         return False
-    many = 0
-    for row in thing:
-        if not is_hands_row(row):
-            return False
-        many += len(row)
-    return many <= MOST_IN_ALL and do_letters_fit(thing)
+    takes = takes_if_rows(thing, 0, len(thing))
+    if takes is None or not do_letters_fit(thing, takes):
+        return False
+    return len(thing) * MOST_DEEDS <= MOST_IN_ALL or sum(map(len, thing)) <= MOST_IN_ALL
 
 
-def is_hands_row(thing):
-    """Whether it is a row of deeds by their forms."""
-    return is_row(thing, 0, MOST_DEEDS) and are_deeds(thing)
-
-
-def do_letters_fit(rows):
-    """Whether each letter goes to another hand, and all takes find theirs in some order of all deeds."""
+# Whoever hands in a run has all its deeds looked at: so in the next two defs nothing is called that can be done
+# without, and no more is asked of an act or of sets that are (). Names mostly come again behind the same ones: so
+# names has for each name that was found well, and for "" ahead of all, what was last found to rise behind it; is_name
+# itself, which nothing handed in is equal to, as long as that is none.
+def takes_if_rows(rows, first, hands):
+    """For each row, numbered from first, its acts of three things, not looked at; None where any is no row of deeds."""
+    names = {"": is_name}
     takes = []
-    for hand, row in enumerate(rows):
-        for place, (act, _) in enumerate(row):
-            if len(act) == 3:
-                takes.append((hand, place, act[1], act[2]))
-            elif len(act) == 2 and (act[1] == hand or act[1] >= len(rows)):
-                return False
-    return are_sent(rows, takes) and have_an_order(takes)
+    for hand, row in enumerate(rows, first):
+        if type(row) is not tuple or len(row) > MOST_DEEDS:
+            return None
+        taking = []
+        takes.append(taking)
+        if row == NOTHING_DONE[:len(row)]:
+            continue
+        for deed in row:
+            if type(deed) is not tuple or len(deed) != 2:
+                return None
+            act, sets = deed
+            if act != ():
+                if type(act) is not tuple:
+                    return None
+                if len(act) == 3:
+                    taking.append(act)
+                elif len(act) != 2:
+                    return None
+                else:
+                    word, other = act
+                    if word != "send" or type(other) is not int or other < 0 or other >= hands or other == hand:
+                        return None
+            if sets != ():
+                if type(sets) is not tuple or len(sets) > MOST_SETS:
+                    return None
+                ahead = ""
+                for pair in sets:
+                    if type(pair) is not tuple or len(pair) != 2:
+                        return None
+                    name, number = pair
+                    if type(number) is not int or number < 0 or number > MOST_WORTH:
+                        return None
+                    if names[ahead] != name and not is_new_behind(names, ahead, name):
+                        return None
+                    ahead = name
+    return takes
 
 
-def are_sent(rows, takes):
-    """Whether each letter that is taken is sent to this hand, and none is taken twice.
+def do_letters_fit(rows, takes):
+    """Whether these are acts that take letters, each sent to this hand and taken once, none awaited for ever.
 
-    takes: rising rows of the taking hand and place, and the letter's hand and place.
+    takes: for each hand its acts of three things.
     """
-    letters = []
-    for hand, _, other, at in takes:
-        if other >= len(rows) or at >= len(rows[other]) or rows[other][at][0] != ("send", hand):
+    must_wait = False
+    for hand, acts in enumerate(takes):
+        for word, other, place in acts:
+            if word != "take" or type(other) is not int or type(place) is not int or other < 0 or other >= len(rows):
+                return False
+            row = rows[other]
+            if place < 0 or place >= len(row) or row[place][0] != ("send", hand):
+                return False
+            if takes[other]:
+                must_wait = True
+        if acts and len(set(acts)) < len(acts):
             return False
-        letters.append((other, at))
-    return len(letters) == len(set(letters))
+    # Letters of hands that take none can all be sent ahead of any take.
+    return not must_wait or have_an_order([takes_along(row) if acts else [] for row, acts in zip(rows, takes)])
 
 
-def have_an_order(takes):
-    """Whether, of such rows of takes, none must wait for ever.
+def is_new_behind(names, ahead, thing):
+    """Whether it is a name that rises behind the one ahead, which is kept in names."""
+    if type(thing) is not str or not ahead < thing or len(thing) > MOST_LETTERS or thing.strip(LETTERS):
+        return False
+    names[ahead] = thing
+    names.setdefault(thing, is_name)
+    return True
+
+
+def takes_along(row):
+    """Of each take of a hand its place, and the hand and place of the letter's sending, the last one ahead."""
+    return [(place, act[1], act[2]) for place, (act, _) in enumerate(row) if len(act) == 3][::-1]
+
+
+def have_an_order(waiting):
+    """Whether, of such rows of takes, one for each hand, none must wait for ever.
 
     Only a take waits for anything else than what is ahead in its row: so a letter can be
     sent as soon as no take that is still to wait stands ahead of its sending.
     """
-    waiting = takes
-    while waiting:
-        firsts = {}
-        for hand, place, _, _ in waiting:
-            firsts.setdefault(hand, place)
-        still = [take for take in waiting if firsts.get(take[2], MOST_DEEDS) < take[3]]
-        if len(still) == len(waiting):
-            return False
-        waiting = still
-    return True
+    firsts = [takes[-1][0] if takes else MOST_DEEDS for takes in waiting]
+    goes_on = True
+    while goes_on:
+        goes_on = False
+        for hand, takes in enumerate(waiting):
+            while takes and firsts[takes[-1][1]] >= takes[-1][2]:
+                takes.pop()
+                firsts[hand] = takes[-1][0] if takes else MOST_DEEDS
+                goes_on = True
+    return min(firsts) == MOST_DEEDS
 
 
 def is_place(run, thing):
     """Whether it is the (hand, place) of a deed of the run."""
-    if not is_row(thing, 2, 2) or not is_whole(thing[0], 0, len(run) - 1):
+    if type(thing) is not tuple or len(thing) != 2:
         return False
-    return is_whole(thing[1], 0, len(run[thing[0]]) - 1)
+    hand, place = thing
+    if type(hand) is not int or type(place) is not int or not 0 <= hand < len(run):
+        return False
+    return 0 <= place < len(run[hand])
 
 
 def need_run(run):
@@ -188,7 +201,7 @@ def worth_of(run, hand, count, name):
     need_hand(run, hand)
     need_count(run, hand, count)
     need_name(name)
-    return worths_along(run[hand][:count], name)[count]
+    return worth_behind(run[hand][:count], name)
 
 
 def taken_by(run, deed):

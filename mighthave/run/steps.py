@@ -29,6 +29,15 @@ def worths_along(row, name):
     return worths
 
 
+def worth_behind(row, name):
+    """The number that the name has behind all of these deeds."""
+    for _, sets in reversed(row):
+        for each, number in sets:
+            if each == name:
+                return number
+    return 0
+
+
 def no_counts(run):
     """The counts of BEGIN."""
     return (0,) * len(run)

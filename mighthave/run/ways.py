@@ -4,8 +4,7 @@ from mighthave.errors import NoMoments, NoNumber, NoWay, TooWide
 from mighthave.run.pasts import is_moment_of, need_moment
 from mighthave.run.runs import need_run
 from mighthave.run.shapes import is_row, is_whole
-from mighthave.run.steps import full_counts, hands_between, is_ready, is_under
-from mighthave.run.steps import no_counts, stepped, taker_of
+from mighthave.run.steps import full_counts, hands_between, is_ready, is_under, no_counts, stepped
 
 MOST = 2000
 MOST_EVER = 5000
@@ -29,19 +28,22 @@ def can_go_on(run, moment):
     return hands_on(run, moment)
 
 
-def is_last_free(run, moment, hand):
-    """Whether the hand has a last deed, and no deed of the moment takes its letter."""
-    if moment[hand] == 0:
-        return False
-    taker = taker_of(run, (hand, moment[hand] - 1))
-    return taker is None or taker[1] >= moment[taker[0]]
+def is_taken_among(row, hand, place):
+    """Whether one of the deeds takes the letter of the deed of another hand at this place."""
+    return ("take", hand, place) in [act for act, _ in row]
 
 
 def can_go_back(run, moment):
     """The rising hands without whose last deed it is a moment, too."""
     need_run(run)
     need_moment(run, moment)
-    return tuple([hand for hand in range(len(run)) if is_last_free(run, moment, hand)])
+    hands = []
+    for hand, count in enumerate(moment):
+        if count > 0:
+            act = run[hand][count - 1][0]
+            if len(act) != 2 or not is_taken_among(run[act[1]][:moment[act[1]]], hand, count - 1):
+                hands.append(hand)
+    return tuple(hands)
 
 
 def stands_by(run, thing):

@@ -1,15 +1,36 @@
 """Tests that serve each kind of paper alike: till and since, on and back."""
 
+import itertools
 import random
 
-from tests.definitions import slice_by_definition
+from tests.definitions import all_lots, slice_by_definition
 from tests.samples import below, moments_by_definition
-from tests.walked import all_deed_rows, all_hand_rows, drawn_lots, otherwise
+from tests.walked import TINY, all_deed_rows, all_hand_rows, drawn_lots, otherwise
 
 
 def lots_of(rng, run, many=3):
     """Drawn lots, each as (set, slice)."""
     return [(lot, slice_by_definition(run, lot)) for lot in drawn_lots(rng, run, many)]
+
+
+def pairs_of_lots(seed, runs, many=3, most=100):
+    """Rows of a run and two of its lots, each as (set, slice): of each run some pairs, no more than most."""
+    rng = random.Random(seed)
+    for run in runs:
+        lots = lots_of(rng, run, many)
+        pairs = list(itertools.product(lots, repeat=2))
+        for one, other in pairs if len(pairs) <= most else rng.sample(pairs, most):
+            yield run, one, other
+
+
+def tiny_pairs(seed, many=400):
+    """All pairs of the lots of runs of few moments, of those that have very many pairs some."""
+    rng = random.Random(seed)
+    for run in TINY:
+        lots = [(lot, slice_by_definition(run, lot)) for lot in all_lots(run)]
+        pairs = list(itertools.product(lots, repeat=2))
+        for one, other in pairs if len(pairs) <= many else rng.sample(pairs, many):
+            yield run, one, other
 
 
 class Papers:
@@ -63,6 +84,69 @@ class Papers:
             told.append(self.check_thing(run, one, other, moment, elsewhere))
             told.append(self.check_thing(run, one, other, moment, exchanged))
         return told
+
+
+class ByAllMoments:
+    """Tests of till, of since: call is the program's, walked tells by all moments."""
+
+    def check(self, run, one, other):
+        (lot, told), (also, too) = one, other
+        have = self.call(run, told, too)
+        self.assertEqual(slice_by_definition(run, self.walked(run, lot, also)), have, (run, told, too))
+        self.assertEqual(have, self.call(run, told, have))
+
+    def test_all_lots_of_tiny_runs(self):
+        for run, one, other in tiny_pairs(self.seed):
+            self.check(run, one, other)
+
+    def test_drawn_lots(self):
+        for run, one, other in pairs_of_lots(self.seed, self.runs):
+            self.check(run, one, other)
+
+
+class PapersTold:
+    """Tests of each told paper of till, of since."""
+
+    def words_told(self, pairs):
+        papers = Papers(self, self.tell, self.shows, self.judge)
+        words = []
+        for run, one, other in pairs:
+            words += papers.check_told(run, one, other, self.walked(run, one[0], other[0]))
+        return words
+
+    def test_all_lots_of_tiny_runs(self):
+        words = self.words_told(tiny_pairs(self.seed, 200))
+        self.assertEqual({"way", "out", "beyond", "knot"}, set(words))
+
+    def test_drawn_lots(self):
+        words = self.words_told(pairs_of_lots(self.seed, self.runs, 2, 50))
+        for word in ("way", "out", "beyond", "knot"):
+            self.assertGreater(words.count(word), 15)
+
+
+class PapersShown:
+    """Tests of papers of till, of since, right and wrong ones."""
+
+    def test_each_paper_of_tiny_runs(self):
+        rng = drawn(self.seed)
+        papers = Papers(self, self.tell, self.shows, self.judge)
+        many = []
+        for run in TINY[:6]:
+            lots = lots_of(rng, run)
+            for one, other in rng.sample(list(itertools.product(lots, repeat=2)), 16):
+                for moment in moments_by_definition(run):
+                    many.append(papers.check_all(run, one, other, moment))
+        self.assertGreater(max(many), 2)
+        self.assertEqual(1, min(many))
+
+    def test_papers_otherwise(self):
+        rng = drawn(self.seed)
+        papers = Papers(self, self.tell, self.shows, self.judge)
+        told = []
+        for run, one, other in pairs_of_lots(self.seed, self.runs, 1, 30):
+            told += papers.check_otherwise(rng, run, one, other, 4)
+        self.assertGreater(told.count(True), 300)
+        self.assertGreater(told.count(False), 3000)
 
 
 def check_denials(test, run, one, denial, is_beside):

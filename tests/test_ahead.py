@@ -10,11 +10,11 @@ from mighthave.lots.slices import is_in, knots_in, own_slice, spanned
 from mighthave.run.ways import stands_of, way_by
 from tests import samples
 from tests.definitions import slice_by_definition
-from tests.papers import Papers, check_denials, drawn, is_above, lots_of
+from tests.papers import ByAllMoments, PapersShown, PapersTold, check_denials, drawn, is_above, pairs_of_lots
+from tests.papers import tiny_pairs
 from tests.refusals import check_anything, check_call, check_places, raised
 from tests.samples import ASKED, DO, EMPTY, FREE, ODD, RELAY, WRITTEN
-from tests.test_together import pairs_of_lots, tiny_pairs
-from tests.walked import TINY, all_above, come_to, is_till_paper, till_by_walking
+from tests.walked import all_above, come_to, is_till_paper, till_by_walking
 
 RUNS = list(samples.SMALL) + samples.random_runs(111, 20, 8)
 OWN = ((0, 0), (((1, 0), (2, 0)), ((1, 1),)))
@@ -24,26 +24,9 @@ STAIRS = ((DO, DO), (DO, DO), (DO,))
 STEPS = spanned(STAIRS, ((0, 0, 0), (1, 1, 0), (2, 2, 0), (2, 2, 1)))
 
 
-def papers(test):
-    return Papers(test, till_paper, shows_till, is_till_paper)
+class Till(ByAllMoments, unittest.TestCase):
 
-
-class Till(unittest.TestCase):
-
-    def check(self, run, one, other):
-        (lot, told), (also, too) = one, other
-        found = till_by_walking(run, lot, also)
-        have = till(run, told, too)
-        self.assertEqual(slice_by_definition(run, found), have, (run, told, too))
-        self.assertEqual(have, till(run, told, have))
-
-    def test_all_lots_of_tiny_runs(self):
-        for run, one, other in tiny_pairs(112):
-            self.check(run, one, other)
-
-    def test_drawn_lots(self):
-        for run, one, other in pairs_of_lots(113, RUNS):
-            self.check(run, one, other)
+    call, walked, runs, seed = staticmethod(till), staticmethod(till_by_walking), RUNS, 112
 
     def test_knots(self):
         self.assertEqual((((0, 0), (1, 0)), ((0, 1), (1, 1))), knots_in(STAIRS, STEPS))
@@ -70,20 +53,10 @@ class Till(unittest.TestCase):
         self.assertIs(NoSlice, type(raised(till, WRITTEN, None, own_slice(ASKED))))
 
 
-class TillPaper(unittest.TestCase):
+class TillPaper(PapersTold, unittest.TestCase):
 
-    def test_all_lots_of_tiny_runs(self):
-        words = []
-        for run, one, other in tiny_pairs(114, 200):
-            words += papers(self).check_told(run, one, other, till_by_walking(run, one[0], other[0]))
-        self.assertEqual({"way", "out", "beyond", "knot"}, set(words))
-
-    def test_drawn_lots(self):
-        words = []
-        for run, one, other in pairs_of_lots(115, RUNS, 2, 50):
-            words += papers(self).check_told(run, one, other, till_by_walking(run, one[0], other[0]))
-        for word in ("way", "out", "beyond", "knot"):
-            self.assertGreater(words.count(word), 15)
+    tell, shows, judge = staticmethod(till_paper), staticmethod(shows_till), staticmethod(is_till_paper)
+    walked, runs, seed = staticmethod(till_by_walking), RUNS, 114
 
     def test_just_the_first_that_is_so(self):
         self.assertEqual(("out",), till_paper(STAIRS, STEPS, None, (0, 1, 0)))
@@ -105,18 +78,10 @@ class TillPaper(unittest.TestCase):
         self.assertIs(NoMoment, type(raised(till_paper, WRITTEN, None, None, (0, 1))))
 
 
-class ShowsTill(unittest.TestCase):
+class ShowsTill(PapersShown, unittest.TestCase):
 
-    def test_each_paper_of_tiny_runs(self):
-        rng = drawn(116)
-        many = []
-        for run in TINY[:6]:
-            lots = lots_of(rng, run)
-            for one, other in rng.sample(list(itertools.product(lots, repeat=2)), 16):
-                for moment in samples.moments_by_definition(run):
-                    many.append(papers(self).check_all(run, one, other, moment))
-        self.assertGreater(max(many), 2)
-        self.assertEqual(1, min(many))
+    tell, shows, judge = staticmethod(till_paper), staticmethod(shows_till), staticmethod(is_till_paper)
+    runs, seed = RUNS, 116
 
     def test_any_way_that_fits(self):
         own = own_slice(RELAY)
@@ -146,14 +111,6 @@ class ShowsTill(unittest.TestCase):
         middle = spanned(STAIRS, ((1, 1, 0),))
         self.assertIs(True, shows_till(STAIRS, STEPS, middle, (0, 0, 0), ("knot", well)))
         self.assertIs(False, shows_till(STAIRS, STEPS, middle, (0, 0, 0), ("knot", ((0, 1), (1, 1)))))
-
-    def test_papers_otherwise(self):
-        rng = drawn(117)
-        told = []
-        for run, one, other in pairs_of_lots(118, RUNS, 1, 30):
-            told += papers(self).check_otherwise(rng, run, one, other, 4)
-        self.assertGreater(told.count(True), 300)
-        self.assertGreater(told.count(False), 3000)
 
     def test_of_anything(self):
         for one, other in ((OWN, END), (OWN, None), (None, OWN)):

@@ -10,11 +10,11 @@ from mighthave.lots.slices import is_in, knots_in, own_slice, spanned
 from mighthave.run.ways import stands_of, way_by
 from tests import samples
 from tests.definitions import slice_by_definition
-from tests.papers import Papers, check_denials, drawn, is_beneath, lots_of
+from tests.papers import ByAllMoments, PapersShown, PapersTold, check_denials, drawn, is_beneath, pairs_of_lots
+from tests.papers import tiny_pairs
 from tests.refusals import check_anything, check_call, check_places, raised
 from tests.samples import ASKED, DO, EMPTY, FREE, ODD, RELAY, WRITTEN
-from tests.test_together import pairs_of_lots, tiny_pairs
-from tests.walked import TINY, all_below, come_to, is_since_paper, since_by_walking
+from tests.walked import all_below, come_to, is_since_paper, since_by_walking
 
 RUNS = list(samples.SMALL) + samples.random_runs(131, 20, 8)
 OWN = ((0, 0), (((1, 0), (2, 0)), ((1, 1),)))
@@ -25,26 +25,9 @@ STAIRS = ((DO, DO), (DO, DO), (DO,))
 STEPS = spanned(STAIRS, ((0, 0, 0), (0, 0, 1), (1, 1, 1), (2, 2, 1)))
 
 
-def papers(test):
-    return Papers(test, since_paper, shows_since, is_since_paper)
+class Since(ByAllMoments, unittest.TestCase):
 
-
-class Since(unittest.TestCase):
-
-    def check(self, run, one, other):
-        (lot, told), (also, too) = one, other
-        found = since_by_walking(run, lot, also)
-        have = since(run, told, too)
-        self.assertEqual(slice_by_definition(run, found), have, (run, told, too))
-        self.assertEqual(have, since(run, told, have))
-
-    def test_all_lots_of_tiny_runs(self):
-        for run, one, other in tiny_pairs(132):
-            self.check(run, one, other)
-
-    def test_drawn_lots(self):
-        for run, one, other in pairs_of_lots(133, RUNS):
-            self.check(run, one, other)
+    call, walked, runs, seed = staticmethod(since), staticmethod(since_by_walking), RUNS, 132
 
     def test_knots(self):
         self.assertEqual((((0, 0), (1, 0)), ((0, 1), (1, 1))), knots_in(STAIRS, STEPS))
@@ -74,20 +57,10 @@ class Since(unittest.TestCase):
         self.assertIs(NoSlice, type(raised(since, WRITTEN, None, own_slice(ASKED))))
 
 
-class SincePaper(unittest.TestCase):
+class SincePaper(PapersTold, unittest.TestCase):
 
-    def test_all_lots_of_tiny_runs(self):
-        words = []
-        for run, one, other in tiny_pairs(134, 200):
-            words += papers(self).check_told(run, one, other, since_by_walking(run, one[0], other[0]))
-        self.assertEqual({"way", "out", "beyond", "knot"}, set(words))
-
-    def test_drawn_lots(self):
-        words = []
-        for run, one, other in pairs_of_lots(135, RUNS, 2, 50):
-            words += papers(self).check_told(run, one, other, since_by_walking(run, one[0], other[0]))
-        for word in ("way", "out", "beyond", "knot"):
-            self.assertGreater(words.count(word), 15)
+    tell, shows, judge = staticmethod(since_paper), staticmethod(shows_since), staticmethod(is_since_paper)
+    walked, runs, seed = staticmethod(since_by_walking), RUNS, 134
 
     def test_just_the_first_that_is_so(self):
         begin = begin_slice(STAIRS)
@@ -110,18 +83,10 @@ class SincePaper(unittest.TestCase):
         self.assertIs(NoMoment, type(raised(since_paper, WRITTEN, None, None, (0, 1))))
 
 
-class ShowsSince(unittest.TestCase):
+class ShowsSince(PapersShown, unittest.TestCase):
 
-    def test_each_paper_of_tiny_runs(self):
-        rng = drawn(136)
-        many = []
-        for run in TINY[:6]:
-            lots = lots_of(rng, run)
-            for one, other in rng.sample(list(itertools.product(lots, repeat=2)), 16):
-                for moment in samples.moments_by_definition(run):
-                    many.append(papers(self).check_all(run, one, other, moment))
-        self.assertGreater(max(many), 3)
-        self.assertEqual(1, min(many))
+    tell, shows, judge = staticmethod(since_paper), staticmethod(shows_since), staticmethod(is_since_paper)
+    runs, seed = RUNS, 136
 
     def test_any_way_that_fits(self):
         own, begin, end = own_slice(RELAY), (0, 0, 0), (3, 4, 3)
@@ -156,14 +121,6 @@ class ShowsSince(unittest.TestCase):
         middle = spanned(STAIRS, ((1, 1, 1),))
         self.assertIs(True, shows_since(STAIRS, STEPS, middle, end, ("knot", ((0, 1), (1, 1)))))
         self.assertIs(False, shows_since(STAIRS, STEPS, middle, end, ("knot", well)))
-
-    def test_papers_otherwise(self):
-        rng = drawn(137)
-        told = []
-        for run, one, other in pairs_of_lots(138, RUNS, 1, 30):
-            told += papers(self).check_otherwise(rng, run, one, other, 4)
-        self.assertGreater(told.count(True), 300)
-        self.assertGreater(told.count(False), 3000)
 
     def test_of_anything(self):
         for one, other in ((OWN, END), (OWN, None), (None, OWN), (OWN, OWN)):

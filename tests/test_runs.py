@@ -129,7 +129,8 @@ class Runs(unittest.TestCase):
         for sets in ((("b", 1), ("a", 2)), (("a", 1), ("a", 2)), (("c", 1), ("b", 2)), (("b", 1), ("b", 1)),
                      (("a", 1), ("c", 2), ("b", 3)), (("a", 1), ("b", 2), ("b", 3)), (("b", 1), ("c", 2), ("c", 2)),
                      (("a", True),), (("a", 1), ("b", False)), (("", 1),), (("a", 1), ("", 1)), ((None, 1),),
-                     (([], 1),), ((("a",), 1),), (("a", 1), (None, 1)), (("a", 1), ([], 1)), (("A", 1),), (("abcdefg", 1),)):
+                     (([], 1),), ((("a",), 1),), (("a", 1), (None, 1)), (("a", 1), ([], 1)), (("A", 1),),
+                     (("abcdefg", 1),)):
             self.assertIs(False, is_run(((first, ((), sets), first),)), sets)
             self.assertIs(False, is_run(((first,), (((), sets),))), sets)
             self.assertIs(False, is_run(((((), sets), first),)), sets)

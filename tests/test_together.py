@@ -10,34 +10,15 @@ from mighthave.lots.slices import is_slice, own_slice, spanned
 from mighthave.lots.together import all_of, both, hull, is_within, shows_witness, witness
 from mighthave.run.ways import stands_of, way_by
 from tests import samples
-from tests.definitions import all_lots, closed, slice_by_definition
+from tests.definitions import closed, slice_by_definition
+from tests.papers import pairs_of_lots, tiny_pairs
 from tests.refusals import NO_SLICES, check_anything, check_call, check_places, raised
 from tests.samples import ASKED, DO, EMPTY, FREE, RELAY, WRITTEN
-from tests.walked import TINY, drawn_lots
+from tests.walked import drawn_lots
 
 RUNS = list(samples.SMALL) + samples.random_runs(91, 20, 8)
 OWN = ((0, 0), (((1, 0), (2, 0)), ((1, 1),)))
 END = ((2, 1), (((2, 1), (2, 1)), ((2, 1),)))
-
-
-def pairs_of_lots(seed, runs=RUNS, many=3, most=100):
-    """Rows of a run and two of its lots, each as (set, slice): of each run some pairs, no more than most."""
-    rng = random.Random(seed)
-    for run in runs:
-        lots = [(lot, slice_by_definition(run, lot)) for lot in drawn_lots(rng, run, many)]
-        pairs = list(itertools.product(lots, repeat=2))
-        for one, other in pairs if len(pairs) <= most else rng.sample(pairs, most):
-            yield run, one, other
-
-
-def tiny_pairs(seed, many=400):
-    """All pairs of the lots of runs of few moments, of those that have very many pairs some."""
-    rng = random.Random(seed)
-    for run in TINY:
-        lots = [(lot, slice_by_definition(run, lot)) for lot in all_lots(run)]
-        pairs = list(itertools.product(lots, repeat=2))
-        for one, other in pairs if len(pairs) <= many else rng.sample(pairs, many):
-            yield run, one, other
 
 
 class BothAndHull(unittest.TestCase):
@@ -52,7 +33,7 @@ class BothAndHull(unittest.TestCase):
             self.check(run, one, other)
 
     def test_drawn_lots(self):
-        for run, one, other in pairs_of_lots(93):
+        for run, one, other in pairs_of_lots(93, RUNS):
             self.check(run, one, other)
 
     def test_in_any_order_the_same(self):
@@ -135,7 +116,7 @@ class Within(unittest.TestCase):
             self.check(run, one, other)
 
     def test_drawn_lots(self):
-        for run, one, other in pairs_of_lots(97):
+        for run, one, other in pairs_of_lots(97, RUNS):
             self.check(run, one, other)
 
     def test_empty_within_each(self):

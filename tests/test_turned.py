@@ -12,10 +12,9 @@ from mighthave.run.runs import is_run
 from mighthave.run.ways import stands_of, way_by
 from tests import samples
 from tests.definitions import all_lots, slice_by_definition
-from tests.papers import drawn
+from tests.papers import drawn, pairs_of_lots
 from tests.refusals import check_call, check_places
 from tests.samples import ALONE, ASKED, CROSSED, DO, EMPTY, HANDS_WITHOUT_DEEDS, RELAY, WRITTEN, send, take
-from tests.test_together import pairs_of_lots
 from tests.walked import TINY, drawn_lots
 
 RUNS = list(samples.SMALL) + samples.random_runs(151, 25, 9)

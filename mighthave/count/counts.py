@@ -1,11 +1,11 @@
 """How many moments a lot has, which they are, and the number of each among them."""
 
-from mighthave.errors import NoMoment, NoNumber, TooWide
+from mighthave.errors import NoMoment, NoNumber
 from mighthave.lots.firsts import lies_in
 from mighthave.lots.slices import need_run_and_slice
 from mighthave.run.pasts import need_moment
 from mighthave.run.steps import joined
-from mighthave.run.ways import MOST, need_most
+from mighthave.run.ways import MOST, all_from, need_most
 
 
 def moments_of(lot, most):
@@ -16,19 +16,12 @@ def moments_of(lot, most):
     if lot is None:
         return ()
     least, firsts = lot
-    found = {least: True}
-    waiting = [least]
-    while waiting:
-        moment = waiting.pop()
-        for row, count in zip(firsts, moment):
-            if count < len(row) and row[count] is not None:
-                further = joined(moment, row[count])
-                if further not in found:
-                    found[further] = True
-                    waiting.append(further)
-        if len(found) > most:
-            raise TooWide(most)
-    return tuple(sorted(found))
+
+    def nexts(moment):
+        ahead = [row[count] for row, count in zip(firsts, moment) if count < len(row)]
+        return [joined(moment, first) for first in ahead if first is not None]
+
+    return all_from(least, nexts, most)
 
 
 def how_many(run, lot, *, most=MOST):

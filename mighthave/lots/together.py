@@ -11,22 +11,23 @@ from mighthave.run.steps import met
 MOST_LOTS = 4
 
 
+def settled_in_both(look, one, other, moment):
+    """The nearest moment of both lots to this one of the first lot, as a look up or down in either tells; or None."""
+    while True:
+        further = look(other, moment)
+        if further is None or further == moment:
+            return further
+        moment, one, other = further, other, one
+
+
 def up_in_both(one, other, moment):
     """The least moment of both lots at or above this one of the first lot, or None."""
-    while True:
-        higher = up_in(other, moment)
-        if higher is None or higher == moment:
-            return higher
-        moment, one, other = higher, other, one
+    return settled_in_both(up_in, one, other, moment)
 
 
 def down_in_both(one, other, moment):
     """The greatest moment of both lots at or below this one of the first lot, or None."""
-    while True:
-        lower = down_in(other, moment)
-        if lower is None or lower == moment:
-            return lower
-        moment, one, other = lower, other, one
+    return settled_in_both(down_in, one, other, moment)
 
 
 def slice_of_both(one, other):

@@ -11,6 +11,7 @@ MOST_SETS = 3
 MOST_LETTERS = 6
 MOST_WORTH = 99
 LETTERS = "abcdefghijklmnopqrstuvwxyz"
+# A row of as many deeds as there may be that do nothing: one of some such deeds is told from it at once.
 NOTHING_DONE = (((), ()),) * 12
 
 
@@ -54,7 +55,7 @@ def takes_if_rows(rows, first, hands):
             return None
         taking = []
         takes.append(taking)
-        if row == NOTHING_DONE[:len(row)]:
+        if len(row) > 3 and row == NOTHING_DONE[:len(row)]:
             continue
         for deed in row:
             if type(deed) is not tuple or len(deed) != 2:
@@ -102,7 +103,7 @@ def do_letters_fit(rows, takes):
                 return False
             if takes[other]:
                 must_wait = True
-        if acts and len(set(acts)) < len(acts):
+        if len(acts) > 1 and len(set(acts)) < len(acts):
             return False
     # Letters of hands that take none can all be sent ahead of any take.
     return not must_wait or have_an_order([takes_along(row) if acts else [] for row, acts in zip(rows, takes)])

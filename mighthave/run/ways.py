@@ -104,13 +104,23 @@ def all_moments(run, *, most=MOST):
 
 def moments_within(run, most):
     """All moments, rising, or a refusal where there are more than most."""
-    begin = no_counts(run)
-    found = {begin: True}
-    waiting = [begin]
+
+    def nexts(moment):
+        return [stepped(moment, hand) for hand in hands_on(run, moment)]
+
+    return all_from(no_counts(run), nexts, most)
+
+
+def all_from(least, nexts, most):
+    """All that is come to from the least moment, rising, or a refusal where it is more than most.
+
+    nexts: tells of each moment those that are come to from it at once.
+    """
+    found = {least: True}
+    waiting = [least]
     while waiting:
         moment = waiting.pop()
-        for hand in hands_on(run, moment):
-            further = stepped(moment, hand)
+        for further in nexts(moment):
             if further not in found:
                 found[further] = True
                 waiting.append(further)

@@ -183,6 +183,12 @@ def random_lots(rng, run, many):
     return drawn + [set(), set(moments)]
 
 
+def drawn_like(rng, run, lot):
+    """Some moments, of the lot and of all."""
+    moments = moments_by_definition(run)
+    return rng.sample(sorted(lot), min(len(lot), 3)) + rng.sample(moments, min(len(moments), 3))
+
+
 def slice_by_definition(run, lot):
     """Least and firsts, each the one moment of the lot that is at or below all others that have the deed."""
     if not lot:

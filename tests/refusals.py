@@ -5,7 +5,7 @@ them, and for each argument by what is none of its kind and how that is refused.
 """
 
 from mighthave.errors import NoCounts, NoHand, NoMoment, NoMoments, NoName, NoNumber, NoPlace, NoRun, NoSaying
-from mighthave.errors import NoSayings, NoSlice, NoTest, NoWay
+from mighthave.errors import NoSayings, NoSlice, NoSum, NoTest, NoTests, NoWay, Unfit
 from tests.samples import DEEP, DO, ODD, WRITTEN, send, take
 
 BEARS = {NoHand: "hand", NoPlace: "deed", NoNumber: "number"}
@@ -88,6 +88,39 @@ NO_SAYINGS_ROWS = ODD + (
 )
 # Of the lot with all moments of the run WRITTEN: numbers of no moment are refused behind TooWide, these are not.
 NO_NUMBERS = tuple([thing for thing in ODD if thing != 10 ** 40 - 1]) + ("0", (0,), [1], {}, -2)
+# Of two hands: each of these is no sum of theirs, no tests of theirs.
+NO_SUMS = ODD + (
+    (), 0, (0, "a", 1), [(0, "a", 1)], ((0, "a", 1), None), ((0, "a", 1), (0, "a", 2)), ((0, "a", 1), (0, "a", 1)),
+    ((2, "a", 1),), ((-1, "a", 1),), ((True, "a", 1),), ((0, "A", 1),), ((0, "", 1),), ((0, "abcdefg", 1),),
+    ((0, None, 1),), ((0, ["a"], 1),), ((0, "a", 10),), ((0, "a", -10),), ((0, "a", True),), ((0, "a", "1"),),
+    ((0, "a"),), ((0, "a", 1, 1),), ([0, "a", 1],), (((0, "a", 1),),), ((None, "a", 1),), (("a", 0, 1),),
+    tuple([(hand, name, 1) for hand in (0, 1) for name in "abcdefg"][:13]), ((0, "a", 1), (1, "a", 1), (0, "a", 3)),
+    {(0, "a"): 1}, ((0, ("a",), 1),), ((0, "a", None),), ((0, {}, 1),), (("0", "a", 1),), ((0, "a", 10 ** 39),),
+)
+NO_TESTS_ROWS = ODD + (
+    (), 0, (0, ("done", 1)), [(0, ("done", 1))], ((0, ("done", 1)), None), ((2, ("done", 1)),), ((-1, ("done", 1)),),
+    ((True, ("done", 1)),), ((0, ("done", 13)),), ((0, "done", 1),), ((0,),), ((0, ("done", 1), 1),),
+    ([0, ("done", 1)],), ((0, ["done", 1]),), ((0, None),), ((0, ()),), ((1, ("done", 1)), (0, ("done", 1))),
+    ((0, ("done", 1)), (0, ("done", 2))), ((0, ("done", 1)), (0, ("done", 1))), ((0, ("hand", 0, ("done", 1))),),
+    ((0, ("done", 1)), (1, ("done", 1)), (1, ("done", 1))), ((0, ("done", 1)), (1, ("done", -1))),
+    ((0, ("done", 1)), (1, ("done", 1)), (2, ("done", 1))), {0: ("done", 1)}, ((("done", 1), 0),), (("done", 1),),
+    tuple([(hand, ("done", 1)) for hand in range(7)]), ((None, ("done", 1)),), (("0", ("done", 1)),), ((0, {}),),
+)
+NO_DEED_FORMS = ODD + (
+    0, (), ((),), ((), (), ()), [(), ()], (("send",), ()), (("send", 6), ()), (("send", -1), ()), (("send", True), ()),
+    (("take", 0), ()), (("take", 0, 12), ()), (("take", 0, -1), ()), (("take", 0, True), ()), (("take", 6, 0), ()),
+    (("give", 0), ()), (["send", 0], ()), ((), [("a", 1)]), ((), (("a", 100),)), ((), (("a", 1), ("a", 2))),
+    ((), (("b", 1), ("a", 2))), ((), (("A", 1),)), ((), (("a", True),)), ((), (("a",),)), ((), ("a", 1)), ((), None),
+    (None, ()), ((), (("a", 1), ("b", 1), ("c", 1), ("d", 1))),
+)
+# None of hand 1 where there are two hands: letters to and of itself, to and of hands that aren't there.
+NO_DEEDS = NO_DEED_FORMS + (
+    send(1), send(2), send(5), take(1, 0), take(2, 0), take(5, 11), send(1, ("a", 1)), take(1, 11, ("a", 1)),
+)
+# More than fits the run WRITTEN at the end of hand 1's row: the letter of (0, 0) is taken there.
+NO_GROWTH = NO_DEEDS + (take(0, 0), take(0, 1), take(0, 2), take(0, 11))
+NO_HANDS_MANY = ODD + (0, 7, "2", (2,), [2], {})
+NO_HEARD_PLACES = ODD + (12, 13, "0", (0,), [0], {})
 
 KINDS = {
     "run": (NoRun, NO_RUNS),
@@ -109,6 +142,13 @@ KINDS = {
     "lots": (NoSlice, NO_LOTS),
     "sayings": (NoSayings, NO_SAYINGS_ROWS),
     "number": (NoNumber, NO_NUMBERS),
+    "total": (NoSum, NO_SUMS),
+    "tests": (NoTests, NO_TESTS_ROWS),
+    "form": (Unfit, NO_DEED_FORMS),
+    "heard": (Unfit, NO_DEEDS),
+    "growth": (Unfit, NO_GROWTH),
+    "hands": (NoNumber, NO_HANDS_MANY),
+    "place": (NoNumber, NO_HEARD_PLACES),
 }
 
 

@@ -53,6 +53,12 @@ def greatest(lot):
     return tuple([len(row) - row.count(None) for row in lot[1]])
 
 
+def deeds_beyond(lot):
+    """The rising deeds that some moments of the lot have, its least one hasn't."""
+    most = greatest(lot)
+    return [(hand, place) for hand, count in enumerate(lot[0]) for place in range(count, most[hand])]
+
+
 def beyond_between(own, lot, low, high):
     """A moment from low to high that isn't the lot's, or None where all are; own: the run's own slice.
 

@@ -3,6 +3,7 @@
 Nothing is looked at here before it is used but what is to be judged: all else was found well by who calls.
 """
 
+from mighthave.lots.firsts import deeds_beyond
 from mighthave.run.runs import MOST_IN_ALL, is_place
 from mighthave.run.shapes import is_row, is_whole
 from mighthave.run.steps import is_under, stepped
@@ -12,12 +13,10 @@ def knots_of(lot):
     """The knots of the lot, rising: of each its first and the rising row of its deeds."""
     if lot is None:
         return []
-    least, firsts = lot
+    firsts = lot[1]
     knots = {}
-    for hand, row in enumerate(firsts):
-        for place, first in enumerate(row):
-            if first is not None and place >= least[hand]:
-                knots.setdefault(first, []).append((hand, place))
+    for hand, place in deeds_beyond(lot):
+        knots.setdefault(firsts[hand][place], []).append((hand, place))
     # Deeds were gone through rising, so the knots rise, too.
     return [(first, tuple(deeds)) for first, deeds in knots.items() if len(deeds) > 1]
 

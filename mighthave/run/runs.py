@@ -39,7 +39,7 @@ def is_run(thing):
     takes = takes_if_rows(thing, 0, len(thing))
     if takes is None or not do_letters_fit(thing, takes):
         return False
-    return len(thing) * MOST_DEEDS <= MOST_IN_ALL or sum(map(len, thing)) <= MOST_IN_ALL
+    return len(thing) * MOST_DEEDS <= MOST_IN_ALL or sum([len(row) for row in thing]) <= MOST_IN_ALL
 
 
 # Whoever hands in a run has all its deeds looked at: so in the next two defs nothing is called that can be done

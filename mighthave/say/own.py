@@ -86,6 +86,14 @@ def counts_where(row, test):
     return tuple([count for count, truth in enumerate(truths_of(row, test)) if truth])
 
 
+def stretches_along(row, test):
+    """The longest rows of neighbouring counts of the row's deeds at which the test holds, each as (from, to)."""
+    counts = counts_where(row, test)
+    begins = [count for count in counts if count - 1 not in counts]
+    ends = [count for count in counts if count + 1 not in counts]
+    return tuple(zip(begins, ends))
+
+
 def holds_at(run, hand, count, test):
     """Whether the test holds at the hand behind its first so many deeds."""
     need_run(run)
@@ -108,7 +116,4 @@ def stretches(run, hand, test):
     need_run(run)
     need_hand(run, hand)
     need_test(test)
-    counts = counts_where(run[hand], test)
-    begins = [count for count in counts if count - 1 not in counts]
-    ends = [count for count in counts if count + 1 not in counts]
-    return tuple(zip(begins, ends))
+    return stretches_along(run[hand], test)

@@ -1,0 +1,1 @@
+"""What must have been on each way."""

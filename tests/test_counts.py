@@ -8,10 +8,11 @@ from mighthave.count.counts import how_many, moment_at, moments_in, number_of
 from mighthave.errors import NoMoment, NoNumber, NoRun, NoSlice, TooWide
 from mighthave.lots.firsts import lies_in
 from mighthave.lots.plain import begin_slice, end_slice, hand_slice, road_slice
-from mighthave.lots.slices import own_slice, spanned
+from mighthave.lots.slices import barred_in, knots_in, own_slice, spanned
 from mighthave.run.ways import MOST, MOST_EVER, all_moments, stands_of, way_by
+from mighthave.say.told import slice_of
 from tests import samples
-from tests.definitions import all_lots, slice_by_definition
+from tests.definitions import all_lots, moments_by_definition, random_saying, slice_by_definition
 from tests.papers import lots_of
 from tests.refusals import check_call, check_places, raised
 from tests.samples import ASKED, DO, EMPTY, FREE, HANDS_WITHOUT_DEEDS, WRITTEN
@@ -121,6 +122,41 @@ class Counted(unittest.TestCase):
             self.assertIs(TooWide, type(raised(how_many, run, own_slice(run), most=MOST_EVER)))
         waiting = road_slice(samples.BUSY, 0, 1, "least", 1)
         self.assertEqual(all_within(samples.BUSY, waiting), moments_in(samples.BUSY, waiting, most=MOST_EVER))
+
+
+class SomeHundredMoments(unittest.TestCase):
+
+    def test_three_hands_of_six(self):
+        run = ((DO,) * 6,) * 3
+        own = own_slice(run)
+        moments = tuple(itertools.product(range(7), repeat=3))
+        self.assertEqual(343, how_many(run, own, most=343))
+        self.assertEqual(moments, moments_in(run, own))
+        for number, moment in enumerate(moments):
+            self.assertEqual(moment, moment_at(run, own, number))
+            self.assertEqual(number, number_of(run, own, moment))
+        self.assertIs(TooWide, type(raised(how_many, run, own, most=342)))
+
+    def test_lots_of_sayings(self):
+        rng = random.Random(196)
+        widths, knotted, barred = [], 0, 0
+        for run in samples.random_runs(197, 60, 20):
+            moments = moments_by_definition(run)
+            lots = [own_slice(run), spanned(run, tuple(rng.sample(moments, min(len(moments), 6))))]
+            lots += [slice_of(run, random_saying(rng, run, 4, 8)) for _ in range(3)]
+            for lot in lots:
+                found = tuple(sorted([moment for moment in moments if lies_in(lot, moment)]))
+                self.assertEqual(len(found), how_many(run, lot, most=5000))
+                self.assertEqual(found, moments_in(run, lot, most=5000))
+                for number in rng.sample(range(len(found)), min(len(found), 10)):
+                    self.assertEqual(found[number], moment_at(run, lot, number, most=5000))
+                    self.assertEqual(number, number_of(run, lot, found[number], most=5000))
+                widths.append(len(found))
+                knotted += len(knots_in(run, lot)) > 0
+                barred += len(barred_in(run, lot)) > 0
+            self.assertEqual(tuple(moments), all_moments(run, most=5000))
+        self.assertGreater(len([width for width in widths if width > 100]), 20)
+        self.assertGreater(min(knotted, barred), 20)
 
 
 class TooManyMoments(unittest.TestCase):

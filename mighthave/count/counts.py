@@ -3,39 +3,23 @@
 from mighthave.errors import NoMoment, NoNumber
 from mighthave.lots.firsts import lies_in
 from mighthave.lots.slices import need_run_and_slice
+from mighthave.run.bits import all_bits, all_in, bits_of, lengths_of, moments_by_bits
 from mighthave.run.pasts import need_moment
-from mighthave.run.steps import joined
-from mighthave.run.ways import MOST, all_from, need_most
-
-
-def moments_of(lot, most):
-    """All moments of the lot, rising, or a refusal where there are more than most.
-
-    Each is come to from the least one by joining firsts of next deeds, hand by hand.
-    """
-    if lot is None:
-        return ()
-    least, firsts = lot
-
-    def nexts(moment):
-        ahead = [row[count] for row, count in zip(firsts, moment) if count < len(row)]
-        return [joined(moment, first) for first in ahead if first is not None]
-
-    return all_from(least, nexts, most)
+from mighthave.run.ways import MOST, need_most
 
 
 def how_many(run, lot, *, most=MOST):
     """How many moments the lot has, if there are no more than most."""
     need_run_and_slice(run, lot)
     need_most(most)
-    return len(moments_of(lot, most))
+    return 0 if lot is None else len(all_bits(lot, most))
 
 
 def moments_in(run, lot, *, most=MOST):
     """All moments of the lot, rising, if there are no more than most."""
     need_run_and_slice(run, lot)
     need_most(most)
-    return moments_of(lot, most)
+    return () if lot is None else all_in(lot, most)
 
 
 def moment_at(run, lot, number, *, most=MOST):
@@ -44,10 +28,10 @@ def moment_at(run, lot, number, *, most=MOST):
     if type(number) is not int or number < 0:
         raise NoNumber(number)
     need_most(most)
-    moments = moments_of(lot, most)
-    if number >= len(moments):
+    found = [] if lot is None else sorted(all_bits(lot, most))
+    if number >= len(found):
         raise NoNumber(number)
-    return moments[number]
+    return moments_by_bits([found[number]], lengths_of(run))[0]
 
 
 def number_of(run, lot, moment, *, most=MOST):
@@ -57,4 +41,5 @@ def number_of(run, lot, moment, *, most=MOST):
     if not lies_in(lot, moment):
         raise NoMoment("this is no moment of the lot")
     need_most(most)
-    return moments_of(lot, most).index(moment)
+    own = bits_of(moment, lengths_of(run))
+    return len([bits for bits in all_bits(lot, most) if bits < own])

@@ -1,10 +1,11 @@
 """Ways from BEGIN to END, deed by deed, and the moments that they come to."""
 
-from mighthave.errors import NoMoments, NoNumber, NoWay, TooWide
+from mighthave.errors import NoMoments, NoNumber, NoWay
+from mighthave.run.bits import all_in
 from mighthave.run.pasts import is_moment_of, need_moment
 from mighthave.run.runs import need_run
 from mighthave.run.shapes import is_row, is_whole
-from mighthave.run.steps import full_counts, hands_between, is_ready, is_under, no_counts, stepped
+from mighthave.run.steps import full_counts, hands_between, is_ready, is_under, no_counts, pasts_along, stepped
 
 MOST = 2000
 MOST_EVER = 5000
@@ -104,26 +105,4 @@ def all_moments(run, *, most=MOST):
 
 def moments_within(run, most):
     """All moments, rising, or a refusal where there are more than most."""
-
-    def nexts(moment):
-        return [stepped(moment, hand) for hand in hands_on(run, moment)]
-
-    return all_from(no_counts(run), nexts, most)
-
-
-def all_from(least, nexts, most):
-    """All that is come to from the least moment, rising, or a refusal where it is more than most.
-
-    nexts: tells of each moment those that are come to from it at once.
-    """
-    found = {least: True}
-    waiting = [least]
-    while waiting:
-        moment = waiting.pop()
-        for further in nexts(moment):
-            if further not in found:
-                found[further] = True
-                waiting.append(further)
-        if len(found) > most:
-            raise TooWide(most)
-    return tuple(sorted(found))
+    return all_in((no_counts(run), pasts_along(run)), most)

@@ -61,6 +61,38 @@ FILES = {
         "how_many(run, lot, *, most=2000)", "moments_in(run, lot, *, most=2000)",
         "moment_at(run, lot, number, *, most=2000)", "number_of(run, lot, moment, *, most=2000)",
     ),
+    "mighthave.sums.sums": ("is_sum(run, thing)", "sum_at(run, total, moment)", "gains_of(run, total)"),
+    "mighthave.sums.flows": (
+        "greatest_of(run, lot, total)", "least_of(run, lot, total)", "shows_greatest(run, lot, total, thing)",
+        "shows_least(run, lot, total, thing)",
+    ),
+    "mighthave.sums.between": ("between(run, lot, total, number)",),
+    "mighthave.must.must": ("are_tests(run, thing)", "must_have(run, tests)", "shows_must(run, tests, thing)"),
+    "mighthave.words.texts": (
+        "moment_text(moment)", "way_text(way)", "deed_text(deed)", "run_text(run)", "test_text(test)",
+        "saying_text(saying)", "slice_text(run, lot)", "sum_text(total)", "tests_text(tests)", "read_deed(text)",
+        "read_run(text)", "read_saying(run, text)", "read_sum(run, text)", "read_tests(run, text)",
+    ),
+}
+# Each class with its methods, as each stands in its own body.
+CLASSES = {
+    "mighthave.book.book.Book": (
+        "__init__(self, run)", "grow(self, hand, deed)", "say(self, name, saying)", "drop(self, name)", "back(self)",
+        "run(self)", "names(self)", "saying(self, name)", "slice_of(self, name)", "news(self)", "__eq__(self, other)",
+        "__len__(self)", "__repr__(self)",
+    ),
+    "mighthave.watch.watch.Watch": (
+        "__init__(self, hands, tests)", "hears(self, hand, place, deed)", "told(self)", "front(self)", "token(self)",
+        "letters(self)", "stands(self, hand, place)", "__eq__(self, other)", "__len__(self)", "__repr__(self)",
+    ),
+    "mighthave.words.desk.Desk": (
+        "__init__(self)", "say(self, row)", "many(self, rows)", "log(self)", "book(self)", "__len__(self)",
+    ),
+}
+VALUES = {
+    "mighthave.run.runs": {"MOST_HANDS": 6, "MOST_DEEDS": 12, "MOST_IN_ALL": 48},
+    "mighthave.run.ways": {"MOST": 2000, "MOST_EVER": 5000},
+    "mighthave.lots.plain": {"WORDS": ("most", "least", "just")},
 }
 
 
@@ -73,6 +105,20 @@ class Interface(unittest.TestCase):
                 found = getattr(module, line.partition("(")[0])
                 self.assertEqual(line, found.__name__ + str(inspect.signature(found)))
                 self.assertEqual(name, found.__module__)
+
+    def test_classes(self):
+        for name, methods in CLASSES.items():
+            module, _, word = name.rpartition(".")
+            made = getattr(importlib.import_module(module), word)
+            self.assertEqual(module, made.__module__)
+            for line in methods:
+                found = vars(made)[line.partition("(")[0]]
+                self.assertEqual(line, found.__name__ + str(inspect.signature(found)))
+
+    def test_values(self):
+        for name, values in VALUES.items():
+            for word, told in values.items():
+                self.assertEqual(told, getattr(importlib.import_module(name), word))
 
 
 if __name__ == "__main__":

@@ -1,0 +1,1 @@
+"""A run that grows, with sayings of it by names."""
